@@ -2,6 +2,7 @@
 
 from itertools import combinations, permutations
 
+from heldplaces import pageverdicts
 from heldplaces.pageplay import play_page
 from heldplaces.pagepromises import PROMISES
 
@@ -48,16 +49,17 @@ def pages(rules, size, most_orders=True):
             slots += 1
 
 
-def handed_values(kind, page, more):
-    """What a kind is handed for a page, lengths up to a bit more than the page has."""
-    size, _, row = page
+def handed_values(code, page, more):
+    """What a code is handed for a page, lengths up to a bit more than the page and its fields may have."""
+    kind, (size, _, row) = code.kind, page
     held = [slot for slot, record in enumerate(row) if record is not None]
+    most = max(size, code.rules.most or 0) + more
     if kind == "put":
-        return list(range(1, size + more + 1))
+        return list(range(1, most + 1))
     if kind == "strike":
         return held
     if kind == "set":
-        return [(slot, length) for slot in held for length in range(1, size + more + 1)]
+        return [(slot, length) for slot in held for length in range(1, most + 1)]
     return [None]
 
 
@@ -66,7 +68,7 @@ def judge(code, size, more=2, most_orders=True):
     broken = {}
     greatest = -1
     for page in pages(code.rules, size, most_orders):
-        for handed in handed_values(code.kind, page, more):
+        for handed in handed_values(code, page, more):
             play = play_page(code, page, handed)
             for promise in play.broken:
                 broken[promise] = min(broken.get(promise, len(page[2])), len(page[2]))
@@ -75,28 +77,45 @@ def judge(code, size, more=2, most_orders=True):
     return broken, greatest
 
 
-def compare(code, sizes, verdicts, most_orders=True):
-    """Where verdicts and plays differ: a list of what differs."""
+def breaks_by_case(code, promise, size):
+    """Whether a case is made for a size that breaks a promise. Long handed lengths are met so, too."""
+    units = size // code.rules.unit
+    rows = pageverdicts.rows_of_breaks(code, promise)
+    for at, found in enumerate(pageverdicts.findings_of(code).breaks[promise]):
+        if pageverdicts.is_in(rows[at], units):
+            slots = pageverdicts.least_slots(found, units)
+            page, handed = pageverdicts.case_of(code, found, units, slots)
+            if page[0] != size or len(page[2]) != slots or promise not in play_page(code, page, handed).broken:
+                return False
+    return True
+
+
+def compare_size(code, size, more, most_orders):
+    """Where verdicts and plays differ at a size. A break that no play showed has to be shown by its case."""
     wrong = []
-    least = {}
-    for size in sizes:
-        broken, greatest = judge(code, size, 2, most_orders)
-        for promise in PROMISES:
-            if verdicts.page_breaks(code, promise, size) != (promise in broken):
-                wrong.append((size, promise, promise in broken))
-            if promise in broken and promise not in least:
-                least[promise] = (size, broken[promise])
-        if code.kind == "put":
-            for many in range(0, 5):
-                if verdicts.passes(code, many, size) != (greatest >= many):
-                    wrong.append((size, "passes", many, greatest))
+    broken, greatest = judge(code, size, more, most_orders)
     for promise in PROMISES:
-        case = verdicts.least_page_case(code, promise)
+        told = pageverdicts.page_breaks(code, promise, size)
+        if promise in broken and not told:
+            wrong.append((size, promise, "is broken"))
+        if told and not breaks_by_case(code, promise, size):
+            wrong.append((size, promise, "is not broken"))
+        case = pageverdicts.least_page_case(code, promise)
+        if promise in broken and (case is None or (case[0][0], len(case[0][2])) > (size, broken[promise])):
+            wrong.append((size, promise, "has a lesser case", case, broken[promise]))
         if case is not None and promise not in play_page(code, case[0], case[1]).broken:
-            wrong.append(("case", promise, case))
-        if promise in least:
-            if case is None or (case[0][0], len(case[0][2])) != least[promise]:
-                wrong.append(("least", promise, case, least[promise]))
-        elif case is not None and case[0][0] <= max(sizes):
-            wrong.append(("none", promise, case))
+            wrong.append((size, promise, "has a wrong case", case))
+    if code.kind == "put":
+        for many in range(0, 5):
+            told = pageverdicts.passes(code, many, size)
+            if told != (greatest >= many):
+                wrong.append((size, "passes", many, greatest))
+    return wrong
+
+
+def compare(code, sizes, more=2, most_orders=True):
+    """Where verdicts and plays differ at some sizes: a list of what differs."""
+    wrong = []
+    for size in sizes:
+        wrong = wrong + compare_size(code, size, more, most_orders)
     return wrong
