@@ -74,7 +74,7 @@ def compares_place(part):
 
 def read_if(kind, words):
     """The form of an if of a kind."""
-    parts = read_test(words, NAMES[kind], PHRASES if kind == "look" else {})
+    parts = read_test(words, NAMES[kind], dict(PHRASES) if kind == "look" else {})
     if parts is None:
         return None
     if kind != "look" and not all([compares_place(part) for part in parts]):

@@ -2,7 +2,7 @@
 
 from heldplaces.pagenames import (
     ABOVE, ASKED, AT, BELOW, LESS, LOW, NUMBER, ROOM, SIZE, SLOTS, SPARE, WIDTH, one_row)
-from heldplaces.striking import kept_stretches
+from heldplaces.searching import some_value
 from heldplaces.wholerows import with_more
 
 
@@ -13,23 +13,9 @@ def kept_first(row, at):
     return (row[at],) + row[1:at] + (row[0],) + row[at + 1:]
 
 
-def stretches_at(equals, rows, at):
-    """The stretches of the values of the name at a place."""
-    return kept_stretches([kept_first(row, at) for row in equals], [kept_first(row, at) for row in rows])
-
-
-def some_value(stretch):
-    """The least value of a stretch, if it has a least one."""
-    first, last, step, base = stretch
-    if first is not None:
-        return first * step + base
-    return base if last is None else last * step + base
-
-
-def least_value(equals, rows, at):
-    """A value that the name at a place can have, the least one if there is one; None if the rows cannot hold."""
-    found = [some_value(stretch) for stretch in stretches_at(equals, rows, at)]
-    return min(found) if found else None
+def value_at(equals, rows, at, wanted):
+    """A value that the name at a place can have, one or the least; None if the rows cannot hold."""
+    return some_value([kept_first(row, at) for row in equals], [kept_first(row, at) for row in rows], wanted)
 
 
 def fixed(name, value):
@@ -46,7 +32,7 @@ def solve_break(found, size, slots):
         values[name] = value
         equals.append(fixed(name, value))
     for name in range(SLOTS + 1, WIDTH):
-        value = least_value(equals, found.rows, name)
+        value = value_at(equals, found.rows, name, "one")
         values[name] = value
         equals.append(fixed(name, value))
     return values

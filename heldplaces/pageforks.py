@@ -2,7 +2,7 @@
 
 from heldplaces.pagenames import BELOW, SLOTS, number_row, one_row
 from heldplaces.pagestarts import branch, number_rows
-from heldplaces.striking import can_hold
+from heldplaces.searching import can_hold
 from heldplaces.wholerows import added, is_constant, minus, times_row, with_more
 
 

@@ -52,7 +52,7 @@ def read_page_line(words):
     if line in PLAIN:
         return PLAIN[line]
     if words[0] == "if":
-        parts = read_test(words[1:], NAMES, PHRASES)
+        parts = read_test(words[1:], NAMES, dict(PHRASES))
         return None if parts is None else ("if", parts)
     if words[0] == "lay":
         terms = read_sum(words[1:], NAMES)

@@ -1,15 +1,14 @@
 """For which sizes, of all there are, a page code keeps its promises."""
 
 from heldplaces.errors import BadCount, BadKind, BadPromise
-from heldplaces.pagecases import case_of, fixed, least_value
+from heldplaces.pagecases import case_of, fixed, value_at
 from heldplaces.pageforks import numbered
 from heldplaces.pagenames import SIZE, SLOTS
 from heldplaces.pagepromises import PROMISES
 from heldplaces.pagerules import check_size
 from heldplaces.pageways import find_breaks
-from heldplaces.stretches import (
-    count_taken, is_in, next_free, next_of, regions_of, simple_stretches, told_stretch)
-from heldplaces.striking import can_hold, kept_stretches
+from heldplaces.searching import Search, can_hold, found_stretches, search_rows
+from heldplaces.stretches import count_taken, is_in, next_free, next_of, regions_of, simple_stretches
 from heldplaces.values import is_from
 from heldplaces.wholerows import with_more
 
@@ -21,18 +20,20 @@ def findings_of(code):
     return code.answers["findings"]
 
 
-def told_stretches(rows):
-    """Stretches of sizes, in units."""
-    return simple_stretches([told_stretch(row) for row in rows])
+def searched(breaks):
+    """The stretches of sizes, in units, of cases; each is a pair of equalities and rows."""
+    search = Search("all")
+    for equals, rows in breaks:
+        search_rows(search, equals, rows)
+    return simple_stretches(found_stretches(search))
 
 
-def rows_of_breaks(code, promise):
-    """For each break of a promise the stretches of its sizes."""
-    name = "rows " + promise
-    if name not in code.answers:
+def broken_sizes(code, promise):
+    """The stretches of sizes, in units, at which a promise is broken."""
+    if promise not in code.answers:
         breaks = findings_of(code).breaks[promise]
-        code.answers[name] = [told_stretches(kept_stretches(one.equals, one.rows)) for one in breaks]
-    return code.answers[name]
+        code.answers[promise] = searched([(one.equals, one.rows) for one in breaks])
+    return code.answers[promise]
 
 
 def joined_lists(lists):
@@ -41,13 +42,6 @@ def joined_lists(lists):
     for one in lists:
         found.extend(one)
     return found
-
-
-def broken_sizes(code, promise):
-    """The stretches of sizes, in units, at which a promise is broken."""
-    if promise not in code.answers:
-        code.answers[promise] = simple_stretches(joined_lists(rows_of_breaks(code, promise)))
-    return code.answers[promise]
 
 
 def wrong_stretches(code):
@@ -98,26 +92,27 @@ def page_kept(code):
 
 
 def least_slots(found, size):
-    """The fewest slots of the cases of a break that have a size, in units."""
-    return least_value(list(found.equals) + [fixed(SIZE, size)], found.rows, SLOTS)
+    """The fewest slots of the cases of a break that have a size, in units; None if there are none."""
+    return value_at(list(found.equals) + [fixed(SIZE, size)], found.rows, SLOTS, "least")
+
+
+def case_at(code, promise, size):
+    """A case with the fewest slots that breaks a promise, of those that have a size in units at which one does."""
+    best = None
+    least = None
+    for found in findings_of(code).breaks[promise]:
+        slots = least_slots(found, size)
+        if slots is not None and (least is None or slots < least):
+            best = found
+            least = slots
+    return case_of(code, best, size, least)
 
 
 def least_page_case(code, promise):
     """A case of the least size, and there with the fewest slots, that breaks a promise; None if it is kept."""
     check_promise(promise)
     size = next_of(broken_sizes(code, promise), 1)
-    if size is None:
-        return None
-    best = None
-    least = None
-    rows = rows_of_breaks(code, promise)
-    for at, found in enumerate(findings_of(code).breaks[promise]):
-        if is_in(rows[at], size):
-            slots = least_slots(found, size)
-            if least is None or slots < least:
-                best = found
-                least = slots
-    return case_of(code, best, size, least)
+    return None if size is None else case_at(code, promise, size)
 
 
 def page_breaks(code, promise, size):
@@ -165,11 +160,9 @@ def wrong_sizes(code, size):
 def passing_stretches(code, many):
     """The stretches of sizes, in units, at which own gets a number that is many or more."""
     if ("passing", many) not in code.answers:
-        rows = []
-        for one in findings_of(code).dones:
-            way = numbered(one, code.kind)
-            rows.extend(kept_stretches(way.equals, way.rows + (with_more(way.forms["number"], -many),)))
-        code.answers[("passing", many)] = told_stretches(rows)
+        ways = [numbered(way, code.kind) for way in findings_of(code).dones]
+        cases = [(way.equals, way.rows + (with_more(way.forms["number"], -many),)) for way in ways]
+        code.answers[("passing", many)] = searched(cases)
     return code.answers[("passing", many)]
 
 

@@ -6,7 +6,7 @@ from heldplaces.pageforks import fork_at, fork_empty, numbered, sum_form, test_w
 from heldplaces.pagenames import (
     ABOVE, ASKED, BELOW, NUMBER, OWN_QUOTIENT, QUOTIENT, ROOM, SIZE, SLOTS, number_row, one_row, unit_row)
 from heldplaces.pagestarts import branch, start_ways
-from heldplaces.striking import can_hold
+from heldplaces.searching import can_hold
 from heldplaces.wholerows import added, is_constant, minus, with_more
 
 

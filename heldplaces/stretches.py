@@ -6,17 +6,6 @@ The last one may be None, for no end.
 from math import gcd
 
 
-def told_stretch(stretch):
-    """A stretch of the kept name, (first, last, step, base), as numbers. It has a first one."""
-    first, last, step, base = stretch
-    if step == 0:
-        return (base, base, 1)
-    start = first * step + base
-    if last is None:
-        return (start, None, step)
-    return (start, last * step + base, step if last > first else 1)
-
-
 def next_in(stretch, number):
     """The least member of a stretch from a number on, or None."""
     first, last, step = stretch

@@ -53,7 +53,7 @@ def choose_name(bounds, width):
         if low == 0 or high == 0:
             return at
         near = 0 if tops[at] == 1 or ends[at] == 1 else min(low * tops[at], high * ends[at])
-        cost = (near, low * high - low - high)
+        cost = near + low * high - low - high
         if best is None or cost < best:
             best = cost
             found = at
@@ -184,25 +184,3 @@ def strike_all(system, width):
             system.rows = rows_of_bounds(bounds)
             bounds = settle(system)
     return None, []
-
-
-def kept_stretches(equals, rows, is_one_enough=False):
-    """The stretches of values of the kept name for which rows can hold, or the first one found of them."""
-    found = []
-    some = equals if equals else rows
-    width = len(some[0]) - 1
-    work = [System(list(equals), list(rows))]
-    while work:
-        system = work.pop()
-        stretch, more = strike_all(system, width)
-        work.extend(more)
-        if stretch is not None:
-            found.append(stretch)
-            if is_one_enough:
-                return found
-    return found
-
-
-def can_hold(equals, rows):
-    """Whether there are whole numbers for which all equalities and rows hold."""
-    return len(kept_stretches(equals, rows, True)) > 0

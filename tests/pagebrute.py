@@ -78,16 +78,9 @@ def judge(code, size, more=2, most_orders=True):
 
 
 def breaks_by_case(code, promise, size):
-    """Whether a case is made for a size that breaks a promise. Long handed lengths are met so, too."""
-    units = size // code.rules.unit
-    rows = pageverdicts.rows_of_breaks(code, promise)
-    for at, found in enumerate(pageverdicts.findings_of(code).breaks[promise]):
-        if pageverdicts.is_in(rows[at], units):
-            slots = pageverdicts.least_slots(found, units)
-            page, handed = pageverdicts.case_of(code, found, units, slots)
-            if page[0] != size or len(page[2]) != slots or promise not in play_page(code, page, handed).broken:
-                return False
-    return True
+    """Whether the case that is made for a size breaks a promise. Long handed lengths are met so, too."""
+    page, handed = pageverdicts.case_at(code, promise, size // code.rules.unit)
+    return page[0] == size and promise in play_page(code, page, handed).broken
 
 
 def compare_size(code, size, more, most_orders):
@@ -101,6 +94,9 @@ def compare_size(code, size, more, most_orders):
         if told and not breaks_by_case(code, promise, size):
             wrong.append((size, promise, "is not broken"))
         case = pageverdicts.least_page_case(code, promise)
+        if told and promise in broken and len(pageverdicts.case_at(
+                code, promise, size // code.rules.unit)[0][2]) > broken[promise]:
+            wrong.append((size, promise, "has fewer slots"))
         if promise in broken and (case is None or (case[0][0], len(case[0][2])) > (size, broken[promise])):
             wrong.append((size, promise, "has a lesser case", case, broken[promise]))
         if case is not None and promise not in play_page(code, case[0], case[1]).broken:

@@ -1,0 +1,55 @@
+"""Codes that several tests use: those of the document, and some more that keep all promises."""
+
+from heldplaces.idcodes import IdCode
+from heldplaces.pagecodes import PageCode
+from heldplaces.pagerules import PageRules
+
+PLAIN = PageRules(8, 4, 1)
+EIGHT = PageRules(20, 6, 8, 65535)
+AHEAD = ("a = room len\nb = low - edge\nif not there is empty\nb = b - slot\nend\nc = b + holes\nif c < a\nno\nend\n"
+         "if b < a\npack\nlow = low + holes\nholes = 0\nend\n")
+TAKING = "if there is empty\ntake empty\nelse\ntake next\nslots = slots + 1\nend\n"
+BEHIND = "low = low - a\nown.at = low\nown.len = len\nlay low"
+PUT = AHEAD + TAKING + BEHIND
+SHORT = PUT.replace("b = b - slot\n", "")
+STRIKE = "a = room own.len\nclear own\nholes = holes + a"
+TWICE = "a = room own.len\nif own.at is low\nlow = low + a\nend\nclear own\nholes = holes + a"
+SHRINK = ("a = room own.len\nif own.at is low\nlow = low + a\nelse\nholes = holes + a\nend\nclear own\n"
+          "if own is last\nslots = slots - 1\nend")
+STRETCH = ("a = room len\nb = room own.len\nc = low - edge + holes + b\nif c < a\nno\nend\nclear own\nholes = holes + b\n"
+           "pack\nlow = low + holes\nholes = 0\nlow = low - a\nown.at = low\nown.len = len\nlay low")
+PACK = "pack\nlow = low + holes\nholes = 0"
+ALL = ("inside", "whole", "owed", "lawful", "books", "full")
+
+GIVE = ("stamp = stamp + 1\nstamp = stamp & 4095\na = page << 10\na = a + slot\n"
+        "word = stamp << 32\nword = word + a")
+LOOK = ("a = word >> 32\nb = word & 4294967295\npage = b >> 10\nslot = b & 1023\n"
+        "if lent and a is stamp\naccept\nend")
+
+
+def put_code(text=PUT, rules=PLAIN):
+    return PageCode("put", rules, text)
+
+
+def strike_code(text=STRIKE, rules=PLAIN):
+    return PageCode("strike", rules, text)
+
+
+def set_code(text=STRETCH, rules=PLAIN):
+    return PageCode("set", rules, text)
+
+
+def pack_code(text=PACK, rules=PLAIN):
+    return PageCode("pack", rules, text)
+
+
+def give_code(text=GIVE):
+    return IdCode("give", text)
+
+
+def free_code(text=""):
+    return IdCode("free", text)
+
+
+def look_code(text=LOOK):
+    return IdCode("look", text)
