@@ -6,6 +6,7 @@ its distances are gone through, each one an equality.
 """
 
 from heldplaces.equalities import System, settle
+from heldplaces.pruning import MOST_ROWS, pruned
 from heldplaces.wholerows import Bounds, common_factor, hold, rows_of_bounds
 
 
@@ -135,11 +136,17 @@ def stretch_of(bounds, system):
     return (first, last, system.step, system.base)
 
 
+def few_rows(bounds, width):
+    """The bounds, without those that the other ones imply if they are many."""
+    return bounds if len(bounds.lasts) <= MOST_ROWS else pruned(bounds, width)
+
+
 def may_hold(system):
     """False if the rows cannot hold, not even by broken numbers, as far as rounding tells."""
     bounds = settle(system)
     while bounds is not None:
         width = len(system.rows[0]) - 1 if system.rows else 0
+        bounds = few_rows(bounds, width)
         at = choose_name(bounds, width)
         if at is None:
             return True
@@ -169,6 +176,7 @@ def strike_all(system, width):
     """Strikes out names as long as that is exact: a stretch or None, and the systems with which to go on."""
     bounds = settle(system)
     while bounds is not None:
+        bounds = few_rows(bounds, width)
         at = choose_name(bounds, width)
         if at is None:
             return stretch_of(bounds, system), []
