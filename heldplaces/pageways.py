@@ -231,6 +231,22 @@ def at_line(ways, line):
     return found
 
 
+def is_bare(code, line):
+    """Whether the block of an if has no lines."""
+    ahead = code.forms[line][0]
+    return ahead == "end" or ahead == "else" and code.forms[line + 1][0] == "end"
+
+
+def follow_if(way, code, findings, line):
+    """The ways on which a way goes on behind an if. Without lines in its block all cases go on alike."""
+    holding, failing, beyond = test_ways(way, code, code.forms[line - 1][1])
+    for one in beyond:
+        note_break(findings, "inside", one)
+    if is_bare(code, line) and not beyond:
+        return at_line([way], code.jumps[line])
+    return at_line(failing, code.jumps[line]) + at_line(holding, line + 1)
+
+
 def follow(way, code, findings):
     """The ways on which a way goes on behind its next line."""
     line = step_on(code.forms, code.jumps, way.line)
@@ -242,10 +258,7 @@ def follow(way, code, findings):
         end_way(way, code, findings, "refused" if form[0] == "no" else "done")
         return []
     if form[0] == "if":
-        holding, failing, beyond = test_ways(way, code, form[1])
-        for one in beyond:
-            note_break(findings, "inside", one)
-        return at_line(failing, code.jumps[line]) + at_line(holding, line + 1)
+        return follow_if(way, code, findings, line)
     step = STEPS[form[0]]
     return at_line(step(way, code, form, findings), line + 1)
 

@@ -16,10 +16,10 @@ class Table:
     Basis tells for each equation which row it tells, -1 at first. All numbers are to be divided by the divisor.
     """
 
-    def __init__(self, lines, costs):
-        self.lines = lines
+    def __init__(self, equations, costs):
+        self.equations = equations
         self.costs = costs
-        self.basis = [-1] * len(lines)
+        self.basis = [-1] * len(equations)
         self.divisor = 1
 
 
@@ -44,10 +44,10 @@ def turned(line, pivot_line, at, divisor):
 
 def turn(table, line_at, at):
     """Goes to the next corner: an equation tells another row from now on."""
-    pivot_line = table.lines[line_at]
-    for k in range(len(table.lines)):
+    pivot_line = table.equations[line_at]
+    for k in range(len(table.equations)):
         if k != line_at:
-            table.lines[k] = turned(table.lines[k], pivot_line, at, table.divisor)
+            table.equations[k] = turned(table.equations[k], pivot_line, at, table.divisor)
     table.costs = turned(table.costs, pivot_line, at, table.divisor)
     table.divisor = pivot_line[at]
     table.basis[line_at] = at
@@ -56,13 +56,13 @@ def turn(table, line_at, at):
 def leaving_line(table, at):
     """The equation that tells another row if the one at a place is taken more often, or None."""
     found = None
-    for k, line in enumerate(table.lines):
+    for k, line in enumerate(table.equations):
         if line[at] <= 0:
             continue
         if found is None:
             found = k
             continue
-        best = table.lines[found]
+        best = table.equations[found]
         apart = line[-1] * best[at] - best[-1] * line[at]
         if apart < 0 or apart == 0 and table.basis[k] < table.basis[found]:
             found = k
@@ -71,7 +71,7 @@ def leaving_line(table, at):
 
 def open_lines(table):
     """The equations that tell no row yet."""
-    return [line for line, told in zip(table.lines, table.basis) if told == -1]
+    return [line for line, told in zip(table.equations, table.basis) if told == -1]
 
 
 def entering_open(table):
@@ -96,17 +96,17 @@ def find_corner(table):
 def close_lines(table):
     """Lets the open equations, in which nothing is left, tell rows as well, or leaves them out."""
     k = 0
-    while k < len(table.lines):
-        line = table.lines[k]
+    while k < len(table.equations):
+        line = table.equations[k]
         places = [at for at in range(len(line) - 1) if line[at] != 0]
         if table.basis[k] != -1:
             k = k + 1
         elif places:
             if line[places[0]] < 0:
-                table.lines[k] = [-one for one in line]
+                table.equations[k] = [-one for one in line]
             turn(table, k, places[0])
         else:
-            del table.lines[k]
+            del table.equations[k]
             del table.basis[k]
 
 

@@ -160,6 +160,17 @@ class TestLanguage(unittest.TestCase):
                     for one in node.args:
                         self.assertFalse(isinstance(one, ast.Name) and one.id in tables, (name, node.lineno))
 
+    def test_attributes_are_no_methods(self):
+        methods, attributes, read = set(), set(), set()
+        for _, tree in trees():
+            for node in ast.walk(tree):
+                if isinstance(node, ast.ClassDef):
+                    methods |= {one.name for one in node.body if isinstance(one, ast.FunctionDef)}
+                elif isinstance(node, ast.Attribute):
+                    (attributes if isinstance(node.ctx, ast.Store) else read).add(node.attr)
+        self.assertFalse(attributes & methods)
+        self.assertFalse(read - attributes - methods - METHODS)
+
     def test_classes(self):
         for name, tree in trees():
             for node in tree.body:
