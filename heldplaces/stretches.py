@@ -93,26 +93,41 @@ def split_class(free, taken):
     return [row for row in rows if row[0] % taken[1] != taken[0]]
 
 
-def free_classes(taken):
-    """The classes (rest, step) of the numbers that are in no class that is taken."""
-    free = [(0, 1)]
-    for _, one in sorted([(row[1], row) for row in taken]):
+def left_of(one, others):
+    """The classes that are left of a class without other ones."""
+    found = [one]
+    for other in others:
         ahead = []
-        for row in free:
-            ahead.extend(split_class(row, one))
-        free = ahead
-        if not free:
-            return free
-    return free
+        for row in found:
+            ahead.extend(split_class(row, other))
+        found = ahead
+    return found
+
+
+def classes_apart(taken):
+    """The numbers of classes as classes that have none in common. Those of small steps stay as they are."""
+    found = []
+    for _, one in sorted([(row[1], row) for row in taken]):
+        found = found + left_of(one, found)
+    return found
+
+
+def are_all(classes):
+    """Whether classes that have no number in common have all numbers together."""
+    whole = 1
+    for _, step in classes:
+        whole = whole // gcd(whole, step) * step
+    return sum([whole // step for _, step in classes]) == whole
 
 
 class Region:
-    """The numbers from start to below end (None: no end): of these, all in the free classes are in no stretch."""
+    """The numbers from start to below end (None: no end), of which those of the classes are in some stretch."""
 
-    def __init__(self, start, end, free):
+    def __init__(self, start, end, classes):
         self.start = start
         self.end = end
-        self.free = free
+        self.classes = classes
+        self.is_full = are_all(classes)
 
 
 def regions_of(stretches):
@@ -128,7 +143,7 @@ def regions_of(stretches):
         there = [row for row in stretches if row[0] <= start and not ends_before(row[1], start)]
         taken = [(first % step, step) for first, _, step in there]
         end = starts[at + 1] if at + 1 < len(starts) else None
-        found.append(Region(start, end, free_classes(taken)))
+        found.append(Region(start, end, classes_apart(taken)))
     return found
 
 
@@ -137,13 +152,22 @@ def next_class(row, number):
     return number + (row[0] - number) % row[1]
 
 
+def free_in(region, number):
+    """The least number of a region from one on that is in no stretch, or None."""
+    if region.is_full:
+        return None
+    found = max(number, region.start)
+    while any([found % step == rest for rest, step in region.classes]):
+        found = found + 1
+    return found if region.end is None or found < region.end else None
+
+
 def next_free(regions, number):
     """The least number from one on that is in no stretch, or None."""
     for region in regions:
-        if region.free and (region.end is None or region.end > number):
-            start = max(number, region.start)
-            found = min([next_class(row, start) for row in region.free])
-            if region.end is None or found < region.end:
+        if region.end is None or region.end > number:
+            found = free_in(region, number)
+            if found is not None:
                 return found
     return None
 
@@ -160,6 +184,5 @@ def count_taken(regions, most):
     for region in regions:
         end = most + 1 if region.end is None else min(region.end, most + 1)
         if region.start < end:
-            free = sum([count_class(row, region.start, end) for row in region.free])
-            total = total + end - region.start - free
+            total = total + sum([count_class(row, region.start, end) for row in region.classes])
     return total
