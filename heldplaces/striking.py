@@ -83,7 +83,7 @@ def is_open_pair(names, last, gap):
 def joined(strike, is_dark):
     """The bounds with a name struck out, where is_dark with all gaps, and the open pairs (low, high)."""
     bounds = Bounds()
-    bounds.lasts = dict(strike.rest)
+    bounds.lasts = {names: strike.rest[names] for names in strike.rest}
     open_pairs = []
     rows = []
     for k, low in enumerate(strike.lows):
