@@ -8,13 +8,17 @@ from heldplaces.wholerows import added, bounds_of, common_factor, rows_of_bounds
 
 
 class System:
-    """Rows that are 0, rows that are 0 or more, and what the kept name stands for."""
+    """Rows that are 0, rows that are 0 or more, and what the kept name stands for.
 
-    def __init__(self, equals, rows, step=1, base=0):
+    Near is None, or (row, low, high): the row is one of the numbers from low to high.
+    """
+
+    def __init__(self, equals, rows, step=1, base=0, near=None):
         self.equals = equals
         self.rows = rows
         self.step = step
         self.base = base
+        self.near = near
 
 
 def inverse(number, modulus):

@@ -1,8 +1,8 @@
 """For which values of the kept name rows of whole numbers can hold. What was found is not looked for again."""
 
 from heldplaces.equalities import System, settle
-from heldplaces.striking import strike_all
-from heldplaces.wholerows import plain_row, rows_of_bounds
+from heldplaces.striking import may_hold, strike_all
+from heldplaces.wholerows import plain_row, rows_of_bounds, times_row, with_more
 
 MOST_PARTS = 4
 
@@ -152,6 +152,11 @@ def part_rows(system, width, part):
     return rows
 
 
+def parts_of(search, system):
+    """The parts of the numbers of a system that were not found yet."""
+    return open_parts(taken_rows(search, system.step, system.base))
+
+
 def split_parts(search, system, width):
     """The systems that are left of a system, without what was found."""
     if not search.classes:
@@ -160,8 +165,29 @@ def split_parts(search, system, width):
     if bounds is None:
         return []
     rows = rows_of_bounds(bounds)
-    parts = open_parts(taken_rows(search, system.step, system.base))
-    return [System([], rows + part_rows(system, width, part), system.step, system.base) for part in parts]
+    return [System([], rows + part_rows(system, width, part), system.step, system.base)
+            for part in parts_of(search, system)]
+
+
+def is_left(search, system, rows, width):
+    """Whether something can be found with these rows that was not found yet, as far as broken numbers tell."""
+    for part in parts_of(search, system):
+        if may_hold(rows + part_rows(system, width, part), width):
+            return True
+    return False
+
+
+def halves(search, system, width):
+    """A system near a bound, as two systems with half of the distances each, or as one with an equality."""
+    row, low, high = system.near
+    rows = system.rows + [with_more(row, -low), with_more(times_row(row, -1), high)]
+    if not is_left(search, system, rows, width):
+        return []
+    if low == high:
+        return [System([with_more(row, -low)], system.rows, system.step, system.base)]
+    middle = (low + high) // 2
+    return [System([], system.rows, system.step, system.base, (row, middle + 1, high)),
+            System([], system.rows, system.step, system.base, (row, low, middle))]
 
 
 def search_rows(search, equals, rows):
@@ -170,8 +196,12 @@ def search_rows(search, equals, rows):
     width = len(some[0]) - 1
     work = [System(list(equals), list(rows))]
     while work and not search.is_ended:
-        for system in split_parts(search, work.pop(), width):
-            stretch, more = strike_all(system, width)
+        system = work.pop()
+        if system.near is not None:
+            work.extend(halves(search, system, width))
+            continue
+        for one in split_parts(search, system, width):
+            stretch, more = strike_all(one, width)
             work.extend(more)
             if stretch is not None:
                 note_found(search, stretch)

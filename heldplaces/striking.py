@@ -6,8 +6,8 @@ its distances are gone through, each one an equality.
 """
 
 from heldplaces.equalities import System, settle
-from heldplaces.pruning import MOST_ROWS, pruned
-from heldplaces.wholerows import Bounds, common_factor, hold, rows_of_bounds
+from heldplaces.pruning import MOST_ROWS, is_implied, pruned
+from heldplaces.wholerows import Bounds, common_factor, hold, plain_row, rows_of_bounds
 
 
 class Strike:
@@ -118,11 +118,8 @@ def near_bounds(strike, open_pairs):
 
 def split_near(rows, strike, open_pairs, step, base):
     """The systems in which a name lies near to one of its bounds."""
-    found = []
-    for (names, last), many in near_bounds(strike, open_pairs):
-        for distance in range(many):
-            found.append(System([names + (last - distance,)], list(rows), step, base))
-    return found
+    return [System([], rows, step, base, (names + (last,), 0, many - 1))
+            for (names, last), many in near_bounds(strike, open_pairs)]
 
 
 def stretch_of(bounds, system):
@@ -141,31 +138,17 @@ def few_rows(bounds, width):
     return bounds if len(bounds.lasts) <= MOST_ROWS else pruned(bounds, width)
 
 
-def may_hold(system):
-    """False if the rows cannot hold, not even by broken numbers, as far as rounding tells."""
-    bounds = settle(system)
-    while bounds is not None:
-        width = len(system.rows[0]) - 1 if system.rows else 0
-        bounds = few_rows(bounds, width)
-        at = choose_name(bounds, width)
-        if at is None:
-            return True
-        bounds, _ = joined(Strike(bounds, at), False)
-        if bounds.is_void:
-            return False
-        if bounds.equals:
-            system.equals = bounds.equals
-            system.rows = rows_of_bounds(bounds)
-            bounds = settle(system)
-    return False
+def may_hold(rows, width):
+    """False if rows cannot hold, not even by broken numbers."""
+    return not is_implied(rows, plain_row(width, -1), width)
 
 
 def split(system, bounds, strike, open_pairs):
     """The systems whose solutions together are those of a system in which a name is struck out with open pairs."""
-    real, _ = joined(strike, False)
-    if real.is_void or not may_hold(System(list(real.equals), rows_of_bounds(real), system.step, system.base)):
+    rows = rows_of_bounds(bounds)
+    if not may_hold(rows, len(rows[0]) - 1):
         return []
-    found = split_near(rows_of_bounds(bounds), strike, open_pairs, system.step, system.base)
+    found = split_near(rows, strike, open_pairs, system.step, system.base)
     dark, _ = joined(strike, True)
     if not dark.is_void:
         found.append(System(list(dark.equals), rows_of_bounds(dark), system.step, system.base))
