@@ -104,11 +104,25 @@ def left_of(one, others):
     return found
 
 
+def is_taken(rests, one):
+    """Whether a class is part of one that was noted; rests has for each step the rests of the classes noted."""
+    rest, step = one
+    return any([step % size == 0 and rest % size in rests[size] for size in rests])
+
+
 def classes_apart(taken):
     """The numbers of classes as classes that have none in common. Those of small steps stay as they are."""
     found = []
-    for _, one in sorted([(row[1], row) for row in taken]):
-        found = found + left_of(one, found)
+    rests = {}
+    for step, one in sorted([(row[1], row) for row in taken]):
+        if is_taken(rests, one):
+            continue
+        # Only classes of a step that does not divide this one can have a part of its numbers.
+        others = [size for size in rests if step % size != 0]
+        left = left_of(one, [row for row in found if row[1] in others]) if others else [one]
+        for rest, size in left:
+            rests.setdefault(size, {})[rest] = True
+        found = found + left
     return found
 
 
