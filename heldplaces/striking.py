@@ -155,23 +155,37 @@ def split(system, bounds, strike, open_pairs):
     return found
 
 
-def strike_all(system, width):
-    """Strikes out names as long as that is exact: a stretch or None, and the systems with which to go on."""
+def strike_exact(system, width):
+    """Strikes out names as long as that is exact.
+
+    Tells the bounds that are left, None if they cannot hold, the next strike, None if the kept name alone is left,
+    and its open pairs.
+    """
     bounds = settle(system)
     while bounds is not None:
         bounds = few_rows(bounds, width)
         at = choose_name(bounds, width)
         if at is None:
-            return stretch_of(bounds, system), []
+            return bounds, None, []
         strike = Strike(bounds, at)
         after, open_pairs = joined(strike, False)
         if after.is_void:
-            return None, []
+            return None, None, []
         if open_pairs:
-            return None, split(system, bounds, strike, open_pairs)
+            return bounds, strike, open_pairs
         bounds = after
         if bounds.equals:
             system.equals = bounds.equals
             system.rows = rows_of_bounds(bounds)
             bounds = settle(system)
-    return None, []
+    return None, None, []
+
+
+def strike_all(system, width):
+    """Strikes out names as long as that is exact: a stretch or None, and the systems with which to go on."""
+    bounds, strike, open_pairs = strike_exact(system, width)
+    if bounds is None:
+        return None, []
+    if strike is None:
+        return stretch_of(bounds, system), []
+    return None, split(system, bounds, strike, open_pairs)

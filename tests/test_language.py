@@ -27,8 +27,10 @@ def sources():
 
 
 def trees():
-    for name, text in sources():
-        yield name, ast.parse(text)
+    return list(TREES)
+
+
+TREES = [(name, ast.parse(text)) for name, text in sources()]
 
 
 def strings_of(tree):
