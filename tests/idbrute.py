@@ -111,3 +111,52 @@ def breaks(ids, pages, many, most=20):
             firsts.setdefault(word, []).append(there[word])
     found["unlike"] = [sum(sorted(gives)[:2]) for gives in firsts.values() if len(gives) > 1]
     return {promise: min(found[promise]) for promise in PROMISES if found[promise]}
+
+
+def histories(ids, pages, many, most):
+    """The least gives behind which each promise is broken, by all histories of at most so many gives."""
+    lives = {(page, slot): lives_of(ids, page, slot, most) for page in range(pages) for slot in range(many)}
+    found = {}
+    for gives in range(1, most + 1):
+        for state in states_with(ids, list(lives), lives, gives):
+            for promise in broken_in(ids, lives, state):
+                found.setdefault(promise, gives)
+    return found
+
+
+def states_with(ids, places, lives, gives):
+    """All states that histories with so many gives lead to: for each place its gives and whether it is lent."""
+    if not places:
+        return [{}] if gives == 0 else []
+    found = []
+    for more in range(0, gives + 1):
+        if more > len(lives[places[0]]):
+            break
+        for rest in states_with(ids, places[1:], lives, gives - more):
+            for is_lent in (True, False)[:1 + (more > 0)] if more else (False,):
+                found.append({places[0]: (more, is_lent), **rest})
+    return found
+
+
+def broken_in(ids, lives, state):
+    """The promises that are broken in a state."""
+    seen, words, found = {}, [], set()
+    for place, (gives, is_lent) in state.items():
+        stamp = 0 if gives == 0 else lives[place][gives - 1][1 if is_lent else 2]
+        seen[place] = (stamp, is_lent)
+    for place, (gives, is_lent) in state.items():
+        for life in range(gives):
+            word = lives[place][life][0]
+            is_living = is_lent and life == gives - 1
+            words += [word] if is_living else []
+            found |= {"none"} if word == ids.none else set()
+            try:
+                told = ids.answer(word, seen)
+            except Beyond:
+                found.add("inside")
+                continue
+            if is_living and told != place:
+                found.add("own")
+            if not is_living and told is not None:
+                found.add("stale")
+    return found | ({"unlike"} if len(set(words)) < len(words) else set())

@@ -26,6 +26,15 @@ GIVE = ("stamp = stamp + 1\nstamp = stamp & 4095\na = page << 10\na = a + slot\n
 LOOK = ("a = word >> 32\nb = word & 4294967295\npage = b >> 10\nslot = b & 1023\n"
         "if lent and a is stamp\naccept\nend")
 
+ENTER = "lay p\non full\nquit no\nend\ngive h p\non out\nstrike p\nquit no\nend\nenter h"
+FIND = "find h\non none\nquit no\nend\nlook h p\non stale\nquit no\nend\n"
+NEXT = "lay q\non full\nquit no\nend\ngive i q\non out\nstrike q\nquit no\nend\nenter i"
+LEAVE = FIND + "strike p\nfree p\nleave"
+CHANGE = FIND + "stretch p\non full\nquit no\nend\non bare\nquit no\nend"
+CARELESS = ENTER.replace("strike p\n", "")
+MOVE = FIND + "strike p\nfree p\n" + NEXT
+COPY = FIND + NEXT + "\nstrike p\nfree p"
+
 
 def put_code(text=PUT, rules=PLAIN):
     return PageCode("put", rules, text)
