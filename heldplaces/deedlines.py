@@ -3,8 +3,6 @@
 from heldplaces.codelines import is_spaced
 from heldplaces.errors import BadLine
 
-IDS = ("h", "i")
-PLACES = ("p", "q")
 OUTCOMES = {
     "find": ("there", "none"),
     "look": ("held", "stale"),
@@ -15,14 +13,14 @@ OUTCOMES = {
     "stretch": ("stretched", "full", "bare"),
 }
 HANDED = {
-    "find": (IDS,),
-    "look": (IDS, PLACES),
-    "lay": (PLACES,),
-    "give": (IDS, PLACES),
-    "free": (PLACES,),
-    "strike": (PLACES,),
-    "stretch": (PLACES,),
-    "enter": (IDS,),
+    "find": (("h", "i"),),
+    "look": (("h", "i"), ("p", "q")),
+    "lay": (("p", "q"),),
+    "give": (("h", "i"), ("p", "q")),
+    "free": (("p", "q"),),
+    "strike": (("p", "q"),),
+    "stretch": (("p", "q"),),
+    "enter": (("h", "i"),),
     "leave": (),
 }
 COPIES = ("h = i", "i = h", "p = q", "q = p")

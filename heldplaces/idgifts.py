@@ -2,7 +2,7 @@
 
 from heldplaces.codelines import step_on
 from heldplaces.idframes import reckoned, with_ends
-from heldplaces.idnames import number_row, one_row
+from heldplaces.idnames import LIFE, PAGE, SLOT, number_row, one_row
 from heldplaces.pagedesk import compare
 from heldplaces.wholerows import added, with_more
 
@@ -80,28 +80,25 @@ def play_code(desk, code):
         line = step_on(code.forms, code.jumps, ahead)
 
 
-def placed(frame, region, run, columns):
+def placed(frame, region, run):
     """The frame with a place of a region, and a life of a run."""
-    page, slot, life = columns
-    found = with_ends(frame, page, region.pages[0], region.pages[1])
-    found = with_ends(found, slot, region.slots[0], region.slots[1])
-    return with_ends(found, life, 0, None if run.many is None else run.many - 1)
+    found = with_ends(frame, PAGE, region.pages[0], region.pages[1])
+    found = with_ends(found, SLOT, region.slots[0], region.slots[1])
+    return with_ends(found, LIFE, 0, None if run.many is None else run.many - 1)
 
 
-def gift_of(ids, frame, region, run, columns):
-    """The gift of a run of lives of the places of a region, in the names of columns."""
-    page, slot, life = columns
+def gift_of(ids, frame, region, run):
+    """The gift of a run of lives of the places of a region."""
     none = number_row(0)
-    names = {"page": one_row(page), "slot": one_row(slot), "stamp": one_row(life, run.step, run.stamp),
+    names = {"page": one_row(PAGE), "slot": one_row(SLOT), "stamp": one_row(LIFE, run.step, run.stamp),
              "word": none, "a": none, "b": none, "c": none}
     sample = {"page": region.pages[0], "slot": region.slots[0], "stamp": run.stamp}
-    desk = GiftDesk(placed(frame, region, run, columns), names, sample)
+    desk = GiftDesk(placed(frame, region, run), names, sample)
     play_code(desk, ids.give)
-    word, lent = desk.names["word"], desk.names["stamp"]
-    # What a free reckons is lost, so that it needs no quotients.
-    frame = desk.frame
+    word, lent, given = desk.names["word"], desk.names["stamp"], desk.frame
+    # What a free reckons is lost, so that its quotients are not kept.
     play_code(desk, ids.free)
-    return Gift(run, frame, word, lent, desk.names["stamp"])
+    return Gift(run, given, word, lent, desk.names["stamp"])
 
 
 def row_at(ids, region):

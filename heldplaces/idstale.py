@@ -80,15 +80,23 @@ def in_state(frame, state, is_lent):
     return Frame(found.lows, found.highs, equals, rows + tuple(state.rows))
 
 
+def state_gives(state, gives):
+    """The gives behind which a look sees a state, where so many were made at other places."""
+    return added(gives, one_row(OTHER_LIFE, 1, state.first + 1))
+
+
 def offer_states(survey, walk, frame, states, is_lent, gives):
     """Notes the breaks by looks that see a place in one of several states, lent or not."""
-    low, high = all_ends(states, is_lent)
+    news = [state for state in states if not is_too_many(survey, state_gives(state, gives)[-1])]
+    if not news or is_answered(survey):
+        return
+    low, high = all_ends(news, is_lent)
     some = Walk(walk.line, with_ends(frame, OTHER_LIFE, low, high), walk.names)
     for end in walk_on(survey.ids.look, some, Seen(one_row(OTHER_LIFE), is_lent)):
         if end.ended != "accept" or not can_be(end.frame):
             continue
-        for state in states:
-            row = added(gives, one_row(OTHER_LIFE, 1, state.first + 1))
+        for state in news:
+            row = state_gives(state, gives)
             if not is_answered(survey) and not is_too_many(survey, row[-1]):
                 offer(survey, in_state(end.frame, state, is_lent), row)
 
@@ -134,8 +142,7 @@ def offer_others(survey, walk, at, gift):
         for frame in other_frames(survey, walk, at, other):
             offer_ends(survey, walk, frame, Seen(number_row(0), False), "accept", gives)
             for is_lent in (False, True):
-                if not is_answered(survey):
-                    offer_states(survey, walk, frame, states, is_lent, gives)
+                offer_states(survey, walk, frame, states, is_lent, gives)
 
 
 def note_stale(survey):

@@ -2,7 +2,7 @@
 
 from heldplaces.idframes import all_rows, can_be, empty_frame, least_of, narrowed, with_ends, with_rows
 from heldplaces.idgifts import gift_of, row_at
-from heldplaces.idnames import FIRST, KEPT, LIFE, SLOT, number_row, one_row
+from heldplaces.idnames import KEPT, LIFE, SLOT, number_row, one_row
 from heldplaces.idregions import regions_of
 from heldplaces.points import least_value
 from heldplaces.wholerows import minus, with_more
@@ -38,7 +38,7 @@ def gifts_in(survey, at):
     frame = start_frame(survey)
     if survey.wanted == "slots":
         frame = with_rows(frame, [there_row(survey, one_row(SLOT))])
-    return [gift_of(survey.ids, frame, region, run, FIRST) for run in survey.rows[at].runs]
+    return [gift_of(survey.ids, frame, region, run) for run in survey.rows[at].runs]
 
 
 def there_row(survey, slot):

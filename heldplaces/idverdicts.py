@@ -9,7 +9,6 @@ from heldplaces.values import is_between
 
 PROMISES = ("inside", "own", "stale", "unlike", "none")
 MOST_NUMBER = 1000000000000000000000000000000
-BY_GIFT = {"inside": note_inside, "own": note_own, "none": note_none}
 
 
 def check_promise(promise):
@@ -25,15 +24,24 @@ def check_numbers(pages, many):
             raise BadNumber(number)
 
 
-def surveyed(ids, promise, pages, many, wanted):
-    """The least number that is found of what is wanted about a promise, or None if it is kept."""
-    survey = Survey(ids, pages, many, wanted)
-    if promise == "stale":
+def note_breaks(survey, promise):
+    """Notes the breaks of a promise."""
+    if promise == "inside":
+        note_gifts(survey, note_inside)
+    elif promise == "own":
+        note_gifts(survey, note_own)
+    elif promise == "stale":
         note_stale(survey)
     elif promise == "unlike":
         note_unlike(survey)
     else:
-        note_gifts(survey, BY_GIFT[promise])
+        note_gifts(survey, note_none)
+
+
+def surveyed(ids, promise, pages, many, wanted):
+    """The least number that is found of what is wanted about a promise, or None if it is kept."""
+    survey = Survey(ids, pages, many, wanted)
+    note_breaks(survey, promise)
     return survey.best
 
 
