@@ -5,7 +5,7 @@ from heldplaces.idframes import narrowed, reckoned
 from heldplaces.idgifts import sum_row
 from heldplaces.idlimits import asks_place
 from heldplaces.idnames import number_row
-from heldplaces.wholerows import minus, times_row, with_more
+from heldplaces.wholerows import minus, negated, times_row, with_more
 
 
 class Walk:
@@ -51,14 +51,14 @@ def term_row(walk, term, seen):
 def compared(frame, left, sign, right):
     """The lists of frames in which two rows compare, and in which they do not."""
     apart = minus(right, left)
-    back = times_row(apart, -1)
     if sign == "is":
+        sides = [with_more(apart, -1), with_more(times_row(apart, -1), -1)]
         holds = [narrowed(frame, [], [apart])]
-        fails = [narrowed(frame, [with_more(apart, -1)]), narrowed(frame, [with_more(back, -1)])]
+        fails = [narrowed(frame, [row]) for row in sides]
     else:
-        more = 0 if sign == "<=" else -1
-        holds = [narrowed(frame, [with_more(apart, more)])]
-        fails = [narrowed(frame, [with_more(back, -1 - more)])]
+        row = apart if sign == "<=" else with_more(apart, -1)
+        holds = [narrowed(frame, [row])]
+        fails = [narrowed(frame, [negated(row)])]
     return [one for one in holds if one is not None], [one for one in fails if one is not None]
 
 

@@ -5,7 +5,7 @@ from heldplaces.idgifts import gift_of, row_at
 from heldplaces.idnames import KEPT, LIFE, SLOT, number_row, one_row
 from heldplaces.idregions import regions_of
 from heldplaces.points import least_value
-from heldplaces.wholerows import minus, with_more
+from heldplaces.wholerows import minus, negated, with_more
 
 
 class Survey:
@@ -55,8 +55,7 @@ def there_rows(survey, page, slot):
 
 def away_rows(survey, page, slot):
     """Rows of which one is 0 or more if there is no such place."""
-    return [with_more(minus(number_row(0), page), -1), with_more(page, -survey.pages),
-            with_more(minus(number_row(0), slot), -1), with_more(minus(number_row(0), there_row(survey, slot)), -1)]
+    return [negated(page), with_more(page, -survey.pages), negated(slot), negated(there_row(survey, slot))]
 
 
 def apart_rows(page, slot, other_page, other_slot):

@@ -3,12 +3,7 @@
 from heldplaces.pagenames import BELOW, SLOTS, number_row, one_row
 from heldplaces.pagestarts import branch, number_rows
 from heldplaces.searching import can_hold
-from heldplaces.wholerows import added, is_constant, minus, times_row, with_more
-
-
-def negated(row):
-    """The row that is 0 or more exactly where the other one is not."""
-    return with_more(times_row(row, -1), -1)
+from heldplaces.wholerows import added, is_constant, minus, negated, times_row, with_more
 
 
 def narrowed(way, rows, equals=()):

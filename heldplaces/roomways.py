@@ -7,7 +7,7 @@ That bits are at most some number is told by a bound of the sum, so that bits ar
 from heldplaces.codelines import step_on
 from heldplaces.roomnames import number_row, one_row
 from heldplaces.searching import can_hold
-from heldplaces.wholerows import added, is_constant, minus, times_row, with_more
+from heldplaces.wholerows import added, is_constant, minus, negated, times_row, with_more
 
 
 class Bits:
@@ -35,11 +35,6 @@ class RoomEnd:
         self.rows = rows
         self.number = number
         self.is_looking = is_looking
-
-
-def negated(row):
-    """The row that is 0 or more exactly where the other one is not."""
-    return with_more(times_row(row, -1), -1)
 
 
 def most_bits(bits, number):

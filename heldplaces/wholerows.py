@@ -23,6 +23,11 @@ def with_more(row, number):
     return row[:-1] + (row[-1] + number,)
 
 
+def negated(row):
+    """The row that is 0 or more exactly where the other one is not."""
+    return with_more(times_row(row, -1), -1)
+
+
 def plain_row(width, number):
     """The row of a number, beside so many names."""
     return (0,) * width + (number,)
