@@ -38,6 +38,16 @@ def with_rows(frame, rows, equals=()):
                  frame.quotients, frame.used)
 
 
+def least_end(ends):
+    """The least of several first ends, None for no end."""
+    return None if None in ends else min(ends)
+
+
+def greatest_end(ends):
+    """The greatest of several last ends, None for no end."""
+    return None if None in ends else max(ends)
+
+
 def least_of(frame, row):
     """What a row is at least, by the ends of its names; None for no end."""
     total = row[-1]

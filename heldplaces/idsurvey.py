@@ -12,6 +12,7 @@ class Survey:
     """A question about ids. Wanted is "one" break, the fewest "gives" behind one, or the least number of "slots".
 
     Best is the least number that was found. Many is the number of slots, or the one from which on slots are counted.
+    Regions have their rows of stamps and gifts; groups are what was found of several regions at once.
     """
 
     def __init__(self, ids, pages, many, wanted):
@@ -23,6 +24,7 @@ class Survey:
         self.regions = regions_of(ids, pages, None if wanted == "slots" else many)
         self.rows = [row_at(ids, region) for region in self.regions]
         self.gifts = [gifts_in(self, at) for at in range(len(self.regions))]
+        self.groups = {}
 
 
 def start_frame(survey):
@@ -88,6 +90,13 @@ def in_turn(survey):
 def first_gives(gift):
     """The gives of a place up to the life of a gift."""
     return one_row(LIFE, 1, gift.run.first + 1)
+
+
+def limited(survey, frame):
+    """A frame without what would be no news, as far as slots are counted."""
+    if survey.wanted == "slots" and survey.best is not None:
+        return with_ends(frame, KEPT, survey.many, survey.best - 1)
+    return frame
 
 
 def offer(survey, frame, gives):

@@ -6,10 +6,11 @@ can have the same id, they are parted, until there are single gifts.
 
 from math import gcd
 
-from heldplaces.idframes import Frame, can_be, narrowed, with_ends
+from heldplaces.idframes import Frame, can_be, greatest_end, least_end, narrowed, with_ends
 from heldplaces.idnames import (
     KEPT, LIFE, OTHER_LIFE, OTHER_PAGE, OTHER_SLOT, PAGE, QUOTIENTS, SLOT, WIDTH, one_row)
-from heldplaces.idsurvey import apart_rows, first_gives, in_turn, is_answered, is_too_many, offer, offer_all
+from heldplaces.idsurvey import (
+    apart_rows, first_gives, in_turn, is_answered, is_too_many, limited, offer, offer_all)
 from heldplaces.wholerows import added, minus
 
 
@@ -33,16 +34,6 @@ def sort_of(survey, member):
     if any([row[LIFE] != 0 for row in gift.frame.rows]):
         return member
     return gift.word[:LIFE] + gift.word[LIFE + 1:-1], gift.frame.rows
-
-
-def least_end(ends):
-    """The least of several first ends, None for no end."""
-    return None if None in ends else min(ends)
-
-
-def greatest_end(ends):
-    """The greatest of several last ends, None for no end."""
-    return None if None in ends else max(ends)
 
 
 def shares_of(gifts):
@@ -110,9 +101,7 @@ def both_frames(survey, one, two):
     used = first.used
     rows = first.rows + tuple([shifted(row, used) for row in second.rows])
     found = Frame(side_by_side(first.lows, second.lows, used), side_by_side(first.highs, second.highs, used), (), rows)
-    if survey.wanted == "slots" and survey.best is not None:
-        return with_ends(found, KEPT, survey.many, survey.best - 1)
-    return found
+    return limited(survey, found)
 
 
 def meeting(survey, one, two):
