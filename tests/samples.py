@@ -1,5 +1,7 @@
 """Codes that several tests use: those of the document, and some more that keep all promises."""
 
+from heldplaces.bookcodes import BookCode
+from heldplaces.bookrules import BookRules
 from heldplaces.idcodes import IdCode
 from heldplaces.pagecodes import PageCode
 from heldplaces.pagerules import PageRules
@@ -62,3 +64,26 @@ def free_code(text=""):
 
 def look_code(text=LOOK):
     return IdCode("look", text)
+
+
+NOTE = ("if own is keep\nno\nend\nif many is keep\na = wrap next - many\nb = sealed a\nmany = many - b\nend\n"
+        "if own is 0\nmark = next\nend\nwrite next\nnext = wrap next + 1\nmany = many + 1\nown = own + 1\nmore = 0")
+FAIL = "many = many - own\nback own times\nown = 0\nmark = next"
+UNTIL = "many = many - own\nback until mark\nown = 0"
+UNDO = ("if many is 0\nno\nend\na = wrap next - 1\nb = sealed a\nback b times\nmany = many - b\nmore = more + b\n"
+        "mark = next")
+REDO = "if more is 0\nno\nend\nb = sealed next\nagain b times\nmany = many + b\nmore = more - b\nmark = next"
+FORGETS_ONE = NOTE.replace("a = wrap next - many\nb = sealed a\nmany = many - b", "many = many - 1")
+TURNED = NOTE.replace("next = wrap next + 1", "next = next + 1\nif next is 64\nnext = 0\nend")
+BOOK = {"note": NOTE, "fail": FAIL, "undo": UNDO, "redo": REDO}
+WHOLE = BookRules("size")
+LESS = BookRules("size - 1")
+
+
+def book_code(kind, text=None, rules=WHOLE):
+    return BookCode(kind, rules, BOOK[kind] if text is None else text)
+
+
+def book_codes(rules=WHOLE, **texts):
+    """The four book codes, with other texts for some kinds."""
+    return [book_code(kind, texts.get(kind), rules) for kind in BOOK]
