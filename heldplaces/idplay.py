@@ -5,19 +5,27 @@ from heldplaces.pagedesk import compare
 
 
 class IdDesk:
-    """The names of an id code at a moment of a play; places is None in a give and a free."""
+    """The names of an id code at a moment of a play; places is None in a give and a free.
 
-    def __init__(self, names, places=None):
+    There are all places that are told, and those with a page and a slot below the limits; these were never lent.
+    """
+
+    def __init__(self, names, places=None, limits=(0, 0)):
         self.names = dict(names)
         for register_name in ("a", "b", "c"):
             self.names[register_name] = 0
         self.places = places
+        self.limits = limits
         self.is_retired = False
 
 
 def place_told(desk):
     """What is told of the place that page and slot name, or None if there is no such place."""
-    return desk.places.get((desk.names["page"], desk.names["slot"]))
+    page, slot = desk.names["page"], desk.names["slot"]
+    told = desk.places.get((page, slot))
+    if told is None and 0 <= page < desk.limits[0] and 0 <= slot < desk.limits[1]:
+        return (0, False)
+    return told
 
 
 def term_value(desk, term):

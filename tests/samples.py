@@ -2,9 +2,13 @@
 
 from heldplaces.bookcodes import BookCode
 from heldplaces.bookrules import BookRules
+from heldplaces.deedcodes import DeedCode
 from heldplaces.idcodes import IdCode
+from heldplaces.ids import Ids
 from heldplaces.pagecodes import PageCode
 from heldplaces.pagerules import PageRules
+from heldplaces.program import Program
+from heldplaces.roomcodes import RoomCode, RoomText
 
 PLAIN = PageRules(8, 4, 1)
 EIGHT = PageRules(20, 6, 8, 65535)
@@ -87,3 +91,33 @@ def book_code(kind, text=None, rules=WHOLE):
 def book_codes(rules=WHOLE, **texts):
     """The four book codes, with other texts for some kinds."""
     return [book_code(kind, texts.get(kind), rules) for kind in BOOK]
+
+
+RETIRING = "if stamp is 4095\nretire\nend"
+# Ids with stamps from 0 to 7 for 16 pages and 16 slots, and ids with stamps from 0 to 3 for 4 pages and 4 slots.
+GIVE_EIGHT = "stamp = stamp + 1\nstamp = stamp & 7\na = page << 4\na = a + slot\nword = stamp << 8\nword = word + a"
+LOOK_EIGHT = "a = word >> 8\nb = word & 255\npage = b >> 4\nslot = b & 15\nif lent and a is stamp\naccept\nend"
+GIVE_FOUR = "stamp = stamp + 1\nstamp = stamp & 3\na = page << 2\na = a + slot\nword = stamp << 4\nword = word + a"
+LOOK_FOUR = "a = word >> 4\nb = word & 15\npage = b >> 2\nslot = b & 3\nif lent and a is stamp\naccept\nend"
+DEEDS = {"enter": ENTER, "leave": LEAVE, "change": CHANGE}
+MOST_TOP = 10 ** 30 - 1
+
+
+def ids_of(give=GIVE, free=RETIRING, look=LOOK, none=0):
+    return Ids(give_code(give), free_code(free), look_code(look), none)
+
+
+def room_code(classes="class = fit", asks="class = len", rules=PLAIN, top=MOST_TOP, **more):
+    return RoomCode(rules, top, RoomText("class", classes), RoomText("ask", asks), **more)
+
+
+def deed_codes(**texts):
+    """The three deeds, with other texts for some kinds."""
+    return [DeedCode(kind, texts.get(kind, text)) for kind, text in DEEDS.items()]
+
+
+def program_of(rules=PLAIN, put=PUT, strike=STRIKE, stretch=STRETCH, ids=None, room=None, deeds=None, book=None, pages=2, outside=False):
+    """A program that is right wherever its room code is, but for the parts that are told."""
+    codes = [put_code(put, rules), strike_code(strike, rules), set_code(stretch, rules)]
+    return Program(codes, ids_of() if ids is None else ids, room_code(rules=rules) if room is None else room,
+                   deed_codes() if deeds is None else deeds, book_codes() if book is None else book, pages, outside)

@@ -67,7 +67,8 @@ class TestLanguage(unittest.TestCase):
                 if isinstance(node, ast.Compare) and isinstance(node.ops[0], (ast.Is, ast.IsNot)):
                     self.assertIn(ast.unparse(node.comparators[0]), ("None", "True", "False"), name)
                 if isinstance(node, ast.FunctionDef):
-                    self.assertFalse(node.decorator_list or node.returns, (name, node.name))
+                    self.assertFalse(node.returns, (name, node.name))
+                    self.assertTrue([ast.unparse(one) for one in node.decorator_list] in ([], ["classmethod"]), (name, node.name))
 
     def test_imports(self):
         reached = {}
@@ -132,6 +133,26 @@ class TestLanguage(unittest.TestCase):
                 elif isinstance(node, ast.Assign):
                     bound += [target.id for target in node.targets]
             self.assertEqual(len(bound), len(set(bound)), name)
+
+    def test_class_methods(self):
+        made, other = set(), set()
+        for name, tree in trees():
+            for node in ast.walk(tree):
+                if isinstance(node, ast.FunctionDef):
+                    (made if node.decorator_list else other).add(node.name)
+                    if node.decorator_list:
+                        self.assert_only_called(node)
+                elif isinstance(node, ast.Attribute) and isinstance(node.ctx, ast.Store):
+                    other.add(node.attr)
+        self.assertFalse(made & other)
+
+    def assert_only_called(self, node):
+        first = node.args.args[0].arg
+        self.assertEqual(first, "cls")
+        called = [one.func for one in ast.walk(node) if isinstance(one, ast.Call)]
+        for one in ast.walk(node):
+            if isinstance(one, ast.Name) and one.id == first:
+                self.assertIn(one, called)
 
     def test_calls(self):
         for name, tree in trees():
