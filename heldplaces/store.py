@@ -12,6 +12,7 @@ from heldplaces.storeplaces import HeldId, look_at
 from heldplaces.values import is_between, is_from, is_whole
 
 WORDS = ("enter", "leave", "change")
+DEEDS = {"enter": 0, "leave": 1, "change": 2}
 TURNS = ("close", "fail", "undo", "redo")
 MOST_KEY = 999999999999999999999999999999
 MOST_LIVES = 1000000000000000000000000000000
@@ -84,7 +85,7 @@ def make_call(store, word, key, length):
     if (key in store.index) == (word == "enter"):
         return CallTold("twice" if word == "enter" else "gone", (), number)
     made = DeedCall(number, key, length)
-    told = play_in_store(store, store.program.deeds[WORDS.index(word)], made)
+    told = play_in_store(store, store.program.deeds[DEEDS[word]], made)
     if told == "ok":
         note_wanted(store, word, made)
     return CallTold(told, tuple(made.steps), number)

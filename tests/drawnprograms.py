@@ -11,22 +11,24 @@ from heldplaces.pagerules import PageRules
 from heldplaces.program import Program
 from heldplaces.roomcodes import RoomCode, RoomText
 from samples import (
-    BOOK, CHANGE, COPY, ENTER, GIVE, GIVE_EIGHT, GIVE_FOUR, LEAVE, LOOK, LOOK_EIGHT, LOOK_FOUR, MOVE, PLAIN, PUT, SHRINK, STRETCH, STRIKE, free_code,
-    give_code, look_code)
+    BOOK, CHANGE, COPY, ENTER, GIVE, GIVE_EIGHT, GIVE_FOUR, LEAVE, LOOK, LOOK_EIGHT, LOOK_FOUR, MOVE, PLAIN, PUT, SHRINK, STRETCH,
+    STRIKE, free_code, give_code, look_code)
 
 RULES = [PLAIN, PLAIN, PageRules(0, 1, 1), PageRules(4, 2, 4), PageRules(2, 3, 8), PageRules(8, 4, 1, 39), PageRules(4, 2, 4, 63)]
 IDS = [(GIVE, LOOK), (GIVE_EIGHT, LOOK_EIGHT), (GIVE_FOUR, LOOK_FOUR), (GIVE_EIGHT, LOOK_EIGHT.replace("lent and ", ""))]
 FREES = ["", "stamp = stamp + 1", "if stamp is 3\nretire\nend", "if stamp is 7\nretire\nend", "if stamp is 4095\nretire\nend"]
 ROOMS = [("class = fit", "class = len"), ("class = fit // 4", "class = len + 3 // 4"), ("class = fit // 8", "class = len // 8\nlook"),
          ("class = bits fit", "class = bits len"), ("class = bits fit", "class = bits len\nlook"), ("class = fit // 8", "class = len // 8")]
-PAGE_LINES = ["pack", "lay low", "lay own.at", "lay a", "clear own", "take empty", "take next", "slots = slots + 1", "slots = slots - 1", "own.at = low",
-              "own.len = len", "own.len = 1", "own.at = 0", "low = low + 1", "low = low - a", "holes = 0", "holes = holes + a", "no", "quit",
-              "a = room len", "a = room own.len", "low = 13", "b = a", "a = size // 2", "own.at = own.at + 1"]
-DEED_LINES = ["find h", "find i", "look h p", "look i q", "lay p", "lay q", "give h p", "give i q", "free p", "free q", "strike p", "strike q",
-              "stretch p", "enter h", "enter i", "leave", "h = i", "p = q", "quit no", "quit ok", "on full", "end", "on none"]
-ID_LINES = ["stamp = stamp + 1", "stamp = stamp & 3", "a = page", "word = slot", "accept", "refuse", "quit", "retire", "page = 0", "slot = word",
-            "if lent", "end", "stamp = 0", "word = word + 1", "if page < 1"]
-ROOM_LINES = ["class = class + 1", "look", "quit", "class = a", "a = fit // 2", "class = 2", "class = bits len", "class = len", "class = full"]
+PAGE_LINES = ["pack", "lay low", "lay own.at", "lay a", "clear own", "take empty", "take next", "slots = slots + 1",
+              "slots = slots - 1", "own.at = low", "own.len = len", "own.len = 1", "own.at = 0", "low = low + 1", "low = low - a",
+              "holes = 0", "holes = holes + a", "no", "quit", "a = room len", "a = room own.len", "low = 13", "b = a", "a = size // 2",
+              "own.at = own.at + 1"]
+DEED_LINES = ["find h", "find i", "look h p", "look i q", "lay p", "lay q", "give h p", "give i q", "free p", "free q", "strike p",
+              "strike q", "stretch p", "enter h", "enter i", "leave", "h = i", "p = q", "quit no", "quit ok", "on full", "end", "on none"]
+ID_LINES = ["stamp = stamp + 1", "stamp = stamp & 3", "a = page", "word = slot", "accept", "refuse", "quit", "retire", "page = 0",
+            "slot = word", "if lent", "end", "stamp = 0", "word = word + 1", "if page < 1"]
+ROOM_LINES = ["class = class + 1", "look", "quit", "class = a", "a = fit // 2", "class = 2", "class = bits len", "class = len",
+              "class = full"]
 POOLS = [("+", "-"), ("<", "<=", "is"), ("low", "holes", "a", "b", "c", "edge", "len", "slot", "slots", "size"), ("p", "q"), ("h", "i")]
 
 

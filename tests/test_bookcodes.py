@@ -31,7 +31,8 @@ class TestCase(unittest.TestCase):
 
 class TestForms(TestCase):
     def test_example(self):
-        self.assertEqual([len(book_code("note")), book_code("note")[12], len(book_code("note", FORGETS_ONE)), len(book_code("fail", UNTIL))],
+        self.assertEqual([len(book_code("note")), book_code("note")[12], len(book_code("note", FORGETS_ONE)),
+                          len(book_code("fail", UNTIL))],
                          [16, "write next", 14, 3])
 
     def test_settings(self):
@@ -39,10 +40,11 @@ class TestForms(TestCase):
             for text in ("0", "size", "next + 1", "size - keep + next - 30", "a", "9" * 30, "mark - own + more - many", "c + b - a"):
                 BookCode("fail", WHOLE, name + " = " + text)
                 BookCode("redo", WHOLE, name + " = wrap " + text)
-        for text in ("size = 1", "keep = 1", "d = 1", "a = a + a", "a = 1 + 2 + 3 + 4 + 5", "a = ", "a =", "a", "a = wrap", "a = wrap ", "a == 1",
-                     "a = len", "a = low", "a = slots", "a = 01", "a = " + "1" * 31, "a  = 1", " a = 1", "a = 1 ", "a = - 1", "a = -1",
-                     "a = wrap wrap 1", "a = wrap size + size", "a = 1 // 2", "a = 1 * 2", "a = bits 1", "wrap = 1", "a = wrap 1 times",
-                     "a = next wrap 1", "A = 1", "a = full", "a = page", "next", "= 1", "a b = 1", "a + = 1", "a = place"):
+        for text in ("size = 1", "keep = 1", "d = 1", "a = a + a", "a = 1 + 2 + 3 + 4 + 5", "a = ", "a =", "a", "a = wrap",
+                     "a = wrap ", "a == 1", "a = len", "a = low", "a = slots", "a = 01", "a = " + "1" * 31, "a  = 1", " a = 1",
+                     "a = 1 ", "a = - 1", "a = -1", "a = wrap wrap 1", "a = wrap size + size", "a = 1 // 2", "a = 1 * 2", "a = bits 1",
+                     "wrap = 1", "a = wrap 1 times", "a = next wrap 1", "A = 1", "a = full", "a = page", "next", "= 1", "a b = 1",
+                     "a + = 1", "a = place"):
             self.bad_line(text)
 
     def test_every_name(self):
@@ -54,17 +56,17 @@ class TestForms(TestCase):
         for place in PLACES:
             for name in ("a", "b", "c"):
                 self.assertEqual(len(BookCode("undo", WHOLE, name + " = sealed " + place)), 1)
-        for text in ("many = sealed a", "next = sealed a", "mark = sealed next", "a = sealed", "a = sealed many", "a = sealed own", "a = sealed more",
-                     "a = sealed size", "a = sealed keep", "a = sealed 3", "a = sealed next + 1", "a = sealed a b", "sealed a", "a = wrap sealed a",
-                     "a = sealed sealed a", "size = sealed a"):
+        for text in ("many = sealed a", "next = sealed a", "mark = sealed next", "a = sealed", "a = sealed many", "a = sealed own",
+                     "a = sealed more", "a = sealed size", "a = sealed keep", "a = sealed 3", "a = sealed next + 1", "a = sealed a b",
+                     "sealed a", "a = wrap sealed a", "a = sealed sealed a", "size = sealed a"):
             for kind in KINDS:
                 self.bad_line(text, 1, kind)
 
     def test_write(self):
         for place in PLACES:
             self.assertEqual(BookCode("note", WHOLE, "write " + place)[1], "write " + place)
-        for text in ("write", "write many", "write own", "write more", "write size", "write 0", "write next + 1", "write a b", "write write",
-                     "a = write next", "write  next"):
+        for text in ("write", "write many", "write own", "write more", "write size", "write 0", "write next + 1", "write a b",
+                     "write write", "a = write next", "write  next"):
             for kind in KINDS:
                 self.bad_line(text, 1, kind)
 
@@ -75,14 +77,15 @@ class TestForms(TestCase):
             for some in ("0", "own", "size", "a + b - 1 + next", "size - keep", "many - own"):
                 BookCode(kind, WHOLE, word + " " + some + " times")
             for text in ("", " 3", " times", " until", " a", " until many", " until 3", " until own", " until next + 1", " until a times",
-                         " own time", " times own", " own times times", " a + a times", " 1 + 2 + 3 + 4 + 5 times", " 01 times", " until a b",
-                         "  own times", " own  times", " wrap own times", " sealed a times"):
+                         " own time", " times own", " own times times", " a + a times", " 1 + 2 + 3 + 4 + 5 times", " 01 times",
+                         " until a b", "  own times", " own  times", " wrap own times", " sealed a times"):
                 for any_kind in KINDS:
                     self.bad_line(word + text, 1, any_kind)
             self.bad_line("a = " + word + " own times", 1, kind)
 
     def test_ifs(self):
-        for test in ("a < b", "next <= mark", "own is keep", "not many is keep", "a < 1 and b < 2 and c < 3 and size < 4", "3 is 4", "not 0 < next"):
+        for test in ("a < b", "next <= mark", "own is keep", "not many is keep", "a < 1 and b < 2 and c < 3 and size < 4", "3 is 4",
+                     "not 0 < next"):
             BookCode("note", WHOLE, lines("if " + test, "a = 1", "else", "a = 2", "end"))
         for test in ("", "a", "a is", "a is a", "a > b", "a = b", "a is b + 1", "not", "not not a is b", "a is b and", "and a is b",
                      "a < 1 and a < 2 and a < 3 and a < 4 and a < 5", "there is empty", "own is last", "lent", "a is d", "a is len"):
@@ -96,8 +99,8 @@ class TestForms(TestCase):
         self.bad_line(lines("if a < b", "if a < c", "end", "a = 1"), 5)
         self.bad_line(lines("a = 1", "", "b = 1"), 2)
         self.bad_line("a = 1\n", 2)
-        for text in ("no no", "quit ok", "no quit", "else if", "end end", "quit no", "accept", "refuse", "look", "take next", "pack", "lay next",
-                     "retire", "leave", "clear own"):
+        for text in ("no no", "quit ok", "no quit", "else if", "end end", "quit no", "accept", "refuse", "look", "take next", "pack",
+                     "lay next", "retire", "leave", "clear own"):
             self.bad_line(text)
         code = BookCode("fail", WHOLE, lines("if a < b", "if a < c", "else", "end", "else", "if b < c", "end", "end", "quit", "no"))
         self.assertEqual((len(code), code[9], code[10]), (10, "quit", "no"))

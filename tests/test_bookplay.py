@@ -22,7 +22,8 @@ class TestExamples(unittest.TestCase):
         note, fail, undo, redo = [book_code(kind) for kind in BOOK]
         one, until = book_code("note", FORGETS_ONE), book_code("fail", UNTIL)
         first, second = play_book(note, (4, 1, (2, 1), (), 1)), play_book(one, (4, 1, (2, 1), (), 1))
-        self.assertEqual([first.ended, first.fields, first.written, first.seals, first.broken], ["done", (2, 3, 0, 2, 0), (1,), {2: 2, 3: 1}, ()])
+        self.assertEqual([first.ended, first.fields, first.written, first.seals, first.broken],
+                         ["done", (2, 3, 0, 2, 0), (1,), {2: 2, 3: 1}, ()])
         self.assertEqual([second.fields, second.broken], [(2, 4, 0, 2, 0), ("fields",)])
         self.assertEqual([play_book(until, (3, 1, (), (), 3)).back, play_book(fail, (3, 1, (), (), 3)).back,
                           play_book(undo, (5, 1, (1, 3), (), 0)).fields], [(), (0, 2, 1), (3, 1, 3, 0, 3)])
@@ -39,13 +40,15 @@ class TestCases(unittest.TestCase):
 
     def test_values_that_are_no_cases(self):
         for kind in BOOK:
-            for case in [None, True, 4, "case", (), (4, 1, (), ()), (4, 1, (), (), 0, 0), [4, 1, (), (), 0], (4, 1, [], (), 0), (4, 1, (), [], 0),
-                         (4, 1, [2], (), 0), (4, 1, (), [1], 0), (4, 1, 2, (), 0), (4, 1, (), None, 0), (4, 1, "", (), 0), (4, 1, (0,), (), 0),
-                         (4, 1, (-1, 2), (), 0), (4, 1, (True,), (), 0), (4, 1, (), (True,), 0), (4, 1, (1.0,), (), 0), (4, 1, ((1,),), (), 0),
+            for case in [None, True, 4, "case", (), (4, 1, (), ()), (4, 1, (), (), 0, 0), [4, 1, (), (), 0], (4, 1, [], (), 0),
+                         (4, 1, (), [], 0), (4, 1, [2], (), 0), (4, 1, (), [1], 0), (4, 1, 2, (), 0), (4, 1, (), None, 0),
+                         (4, 1, "", (), 0), (4, 1, (0,), (), 0), (4, 1, (-1, 2), (), 0), (4, 1, (True,), (), 0),
+                         (4, 1, (), (True,), 0), (4, 1, (1.0,), (), 0), (4, 1, ((1,),), (), 0),
                          (4, 1, (), (0,), 0), (4, 1, (None,), (), 0), (4, 1, (5,), (), 0), (4, 1, (2, 3), (), 0), (4, 1, (2,), (3,), 0),
-                         (4, 1, (), (4, 1), 0), (4, 4, (), (), 0), (4, -1, (), (), 0), (4, True, (), (), 0), (4, None, (), (), 0), (4, 1.0, (), (), 0),
-                         (0, 0, (), (), 0), (-4, 0, (), (), 0), (True, 0, (), (), 0), ("4", 1, (), (), 0), (4, 1, (), (), -1), (4, 1, (), (), True),
-                         (4, 1, (), (), None), (4, 1, (), (), 5), (4, 1, (3,), (), 2), (4, 1, (), (1,), 1), (4, 1, {}, (), 0)]:
+                         (4, 1, (), (4, 1), 0), (4, 4, (), (), 0), (4, -1, (), (), 0), (4, True, (), (), 0), (4, None, (), (), 0),
+                         (4, 1.0, (), (), 0), (0, 0, (), (), 0), (-4, 0, (), (), 0), (True, 0, (), (), 0), ("4", 1, (), (), 0),
+                         (4, 1, (), (), -1), (4, 1, (), (), True), (4, 1, (), (), None), (4, 1, (), (), 5), (4, 1, (3,), (), 2),
+                         (4, 1, (), (1,), 1), (4, 1, {}, (), 0)]:
                 self.refused(kind, case)
 
     def test_sizes_not_in_use(self):
@@ -73,13 +76,14 @@ class TestEnds(unittest.TestCase):
             self.assertEqual(one.fields, fields, text)
 
     def test_done_and_refused(self):
-        for text, ended in [("", "done"), ("quit", "done"), ("no", "refused"), ("quit\nno", "done"), ("if own is 0\nno\nend\nquit", "refused"),
-                            ("if 0 < own\nno\nelse\nmore = 0\nend", "done"), ("if a < 1 and not b is 0\nno\nend", "done")]:
+        for text, ended in [("", "done"), ("quit", "done"), ("no", "refused"), ("quit\nno", "done"),
+                            ("if own is 0\nno\nend\nquit", "refused"), ("if 0 < own\nno\nelse\nmore = 0\nend", "done"),
+                            ("if a < 1 and not b is 0\nno\nend", "done")]:
             self.check("fail", text, EMPTY, ended)
 
     def test_wrap(self):
-        for text, fields in [("mark = wrap 3", 3), ("mark = wrap 4", 0), ("mark = wrap 7", 3), ("mark = wrap 0 - 1", 3), ("mark = wrap 0 - 4", 0),
-                             ("mark = wrap next - size", 1), ("mark = wrap next + size + 2", 3)]:
+        for text, fields in [("mark = wrap 3", 3), ("mark = wrap 4", 0), ("mark = wrap 7", 3), ("mark = wrap 0 - 1", 3),
+                             ("mark = wrap 0 - 4", 0), ("mark = wrap next - size", 1), ("mark = wrap next + size + 2", 3)]:
             self.check("fail", text, EMPTY, "done", (1, 0, 0, 0, fields))
         for text in ("mark = wrap 8", "mark = wrap 0 - 5", "a = wrap size + 4", "a = wrap 0 - size - 1"):
             self.check("fail", text, EMPTY, "beyond", (1, 0, 0, 0, 1))
@@ -127,7 +131,8 @@ class TestEnds(unittest.TestCase):
             one = play("undo", text, case)
             self.assertEqual((one.ended, one.back, one.again, one.fields[0]), ("done", back, (), place), text)
         for text, again, place in [("again 0 times", (), 1), ("again 2 times", (1, 2), 3), ("again size times", (1, 2, 3, 0), 1),
-                                   ("a = 3\nagain until a", (1, 2), 3), ("again until next", (), 1), ("a = 0\nagain until a", (1, 2, 3), 0)]:
+                                   ("a = 3\nagain until a", (1, 2), 3), ("again until next", (), 1),
+                                   ("a = 0\nagain until a", (1, 2, 3), 0)]:
             one = play("redo", text, case)
             self.assertEqual((one.ended, one.back, one.again, one.fields[0]), ("done", (), again, place), text)
         for text in ("WORD size + 1 times", "WORD 0 - 1 times", "a = 4\nWORD until a", "a = 0 - 1\nWORD until a", "next = 4\nWORD 0 times",

@@ -22,10 +22,10 @@ class TestSums(unittest.TestCase):
             self.assertEqual(BookRules(keep=text).keep, text)
 
     def test_what_is_no_sum(self):
-        for value in ["", " ", "siz", "keep", "next", "many", "a", "size + size", "size - size", "1 + 2 + 3 + 4 + 5", "size + 1 + 2 + 3 + 4",
-                      "size * 2", "size // 2", "size  + 1", " size", "size ", "size +", "+ size", "- 1", "-1", "size+1", "size + -1", "01",
-                      "00", "1" + "0" * 30, "size - " + "9" * 31, "size\n", "size\n+ 1", "Size", "size 1", "1.5", "size + + 1", "size - ",
-                      None, True, 3, 3.5, ["size"], ("size",), {"size": 1}, b"size", BookRules("size")]:
+        for value in ["", " ", "siz", "keep", "next", "many", "a", "size + size", "size - size", "1 + 2 + 3 + 4 + 5",
+                      "size + 1 + 2 + 3 + 4", "size * 2", "size // 2", "size  + 1", " size", "size ", "size +", "+ size", "- 1", "-1",
+                      "size+1", "size + -1", "01", "00", "1" + "0" * 30, "size - " + "9" * 31, "size\n", "size\n+ 1", "Size", "size 1",
+                      "1.5", "size + + 1", "size - ", None, True, 3, 3.5, ["size"], ("size",), {"size": 1}, b"size", BookRules("size")]:
             with self.assertRaises(BadSum) as caught:
                 BookRules(value)
             self.assertIs(caught.exception.text, value)

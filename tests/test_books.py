@@ -170,7 +170,8 @@ class TestWrongCodes(unittest.TestCase):
             book.note(thing)
         book.close()
         self.assertEqual([book.undo(), book.redo(), book.told_fields()], [["q", "p"], ["p", "q"], (2, 0, 2, 0, 0)])
-        book = Book(book_codes(fail="own = 0\nback 2 times\nmark = next", redo="b = sealed next\nagain b times\nmany = many + b\nmark = next"), 4)
+        book = Book(book_codes(fail="own = 0\nback 2 times\nmark = next",
+                               redo="b = sealed next\nagain b times\nmany = many + b\nmark = next"), 4)
         for thing in "pq":
             book.note(thing)
         book.close()
@@ -204,8 +205,9 @@ class TestWrongCodes(unittest.TestCase):
         self.assertEqual(book.fail(), [None, "p"])
 
     def test_beyond(self):
-        for kind, text, told in [("note", "write next\nmany = 9", True), ("note", "many = 9", True), ("fail", "back 2 times\nmany = 9", [None, None]),
-                                 ("fail", "many = 9", []), ("undo", "back 1 times\nmany = 9", [None]), ("undo", "a = sealed next", []),
+        for kind, text, told in [("note", "write next\nmany = 9", True), ("note", "many = 9", True),
+                                 ("fail", "back 2 times\nmany = 9", [None, None]), ("fail", "many = 9", []),
+                                 ("undo", "back 1 times\nmany = 9", [None]), ("undo", "a = sealed next", []),
                                  ("redo", "again 1 times\nmany = 9", [None]), ("redo", "a = wrap 20", [])]:
             book = Book(book_codes(**{kind: text}), 4)
             self.assertEqual((book.broken, ask(book, kind)), (None, told), text)
@@ -282,7 +284,8 @@ class TestBookAt(unittest.TestCase):
 
     def test_bad_cases(self):
         fail = book_code("fail")
-        for case in (None, [4, 0, (), (), 0], (4, 4, (), (), 0), (4, 0, (5,), (), 0), (0, 0, (), (), 0), (4, 0, (), (1,), 1), (4, 0, [], (), 0)):
+        for case in (None, [4, 0, (), (), 0], (4, 4, (), (), 0), (4, 0, (5,), (), 0), (0, 0, (), (), 0), (4, 0, (), (1,), 1),
+                     (4, 0, [], (), 0)):
             for codes in (book_codes(), [book_code("note"), fail], [book_code("note"), book_code("fail", None, LESS)] + book_codes()[2:]):
                 with self.assertRaises(BadCase) as caught:
                     Book.book_at(codes, case)
@@ -296,7 +299,8 @@ class TestBookAt(unittest.TestCase):
 
     def test_own_rows(self):
         book = Book.book_at(book_codes(), (4, 1, (1,), (), 3))
-        self.assertEqual([book.undo(), book.redo(), book.fail(), book.undo(), book.undo(), book.redo()], [None, None, [3, 2, 1], [0], None, [0]])
+        self.assertEqual([book.undo(), book.redo(), book.fail(), book.undo(), book.undo(), book.redo()],
+                         [None, None, [3, 2, 1], [0], None, [0]])
 
 
 if __name__ == "__main__":

@@ -22,7 +22,8 @@ class TestExamples(unittest.TestCase):
         until, one = book_code("fail", UNTIL), book_code("note", FORGETS_ONE)
         self.assertEqual([book_kept(book_code("note")), book_kept(until), book_kept(book_code("fail", UNTIL, LESS))],
                          [ALL, ("inside", "fields", "full"), ALL])
-        self.assertEqual([least_book_case(until, "rows"), next_wrong_book(one, 1), least_book_case(one, "fields")[0]], [(1, 0, (), (), 1), 2, 2])
+        self.assertEqual([least_book_case(until, "rows"), next_wrong_book(one, 1), least_book_case(one, "fields")[0]],
+                         [(1, 0, (), (), 1), 2, 2])
         turned = book_code("note", TURNED)
         self.assertEqual([next_wrong_book(turned, 1), next_right_book(turned, 1), next_wrong_book(turned, 64), book_is_right(turned, 64)],
                          [1, 64, 65, True])
@@ -66,8 +67,11 @@ class TestRightCodes(unittest.TestCase):
 
     def test_other_right_codes(self):
         for kind, text in [("fail", "a = mark\nb = own\nback b times\nmany = many - b\nown = 0\nmark = a"),
-                           ("undo", UNDO.replace("back b times", "c = next\nc = wrap c - b\nif b is size\nback size times\nelse\nback until c\nend")),
-                           ("redo", "if 0 < more\na = mark\na = sealed a\nmany = many + a\nmore = more - a\nagain a times\nmark = next\nelse\nno\nend"),
+                           ("undo",
+                            UNDO.replace("back b times",
+                                         "c = next\nc = wrap c - b\nif b is size\nback size times\nelse\nback until c\nend")),
+                           ("redo",
+                            "if 0 < more\na = mark\na = sealed a\nmany = many + a\nmore = more - a\nagain a times\nmark = next\nelse\nno\nend"),
                            ("note", NOTE.replace("if own is 0\nmark = next\nend\n", "")),
                            ("note", NOTE.replace("next = wrap next + 1", "next = next + 1\nif next is size\nnext = 0\nend"))]:
             self.assertEqual(book_kept(book_code(kind, text)), ALL, text)
@@ -113,7 +117,8 @@ class TestAgainstTrying(unittest.TestCase):
         for kind, text in BOOK.items():
             lines = text.split("\n")
             for k in range(len(lines)):
-                for rows in (lines[:k] + lines[k + 1:], lines[:k + 1] + lines[k:], lines[:k] + lines[k + 1:k + 2] + lines[k:k + 1] + lines[k + 2:]):
+                for rows in (lines[:k] + lines[k + 1:], lines[:k + 1] + lines[k:],
+                             lines[:k] + lines[k + 1:k + 2] + lines[k:k + 1] + lines[k + 2:]):
                     try:
                         code = BookCode(kind, WHOLE, "\n".join(rows))
                     except HeldError:
@@ -122,7 +127,8 @@ class TestAgainstTrying(unittest.TestCase):
 
     def test_periods(self):
         # Sizes that are told by rests: twice and three times next is the size.
-        for text, top in [("a = next\na = a + next\nif a is size\nno\nend", 6), ("a = next + 1\nb = a + next\na = b + next\nif a is size\nno\nend", 6),
+        for text, top in [("a = next\na = a + next\nif a is size\nno\nend", 6),
+                          ("a = next + 1\nb = a + next\na = b + next\nif a is size\nno\nend", 6),
                           ("a = many\nb = a + many\na = b + many - 1\nif a is keep\nmany = 0 - 1\nend", 6)]:
             for keep in ("size", "4", "7 - size"):
                 self.check(BookCode("fail", BookRules(keep), text), top)
@@ -130,11 +136,15 @@ class TestAgainstTrying(unittest.TestCase):
 
 class TestLeastCases(unittest.TestCase):
     def test_far_cases(self):
-        for kind, text, promise in [("note", NOTE.replace("if own is keep", "if own is 40"), "full"), ("undo", UNDO + "\nif b is 30\nmark = 0\nend", "fields"),
+        for kind, text, promise in [("note", NOTE.replace("if own is keep", "if own is 40"), "full"),
+                                    ("undo", UNDO + "\nif b is 30\nmark = 0\nend", "fields"),
                                     ("redo", REDO.replace("again b times", "if b < 25\nagain b times\nelse\nagain 25 times\nend"), "rows"),
-                                    ("undo", UNDO.replace("b = sealed a", "if 20 < more and 20 < many\na = wrap a - 1\nend\nb = sealed a"), "inside"),
+                                    ("undo",
+                                     UNDO.replace("b = sealed a", "if 20 < more and 20 < many\na = wrap a - 1\nend\nb = sealed a"),
+                                     "inside"),
                                     ("note", NOTE + "\nif own is 20 and many is keep\nown = own + 1\nend", "fields"),
-                                    ("fail", FAIL.replace("mark = next", "if 9 < more and 17 < many\nmany = 3\nend\nmark = next"), "fields")]:
+                                    ("fail", FAIL.replace("mark = next", "if 9 < more and 17 < many\nmany = 3\nend\nmark = next"),
+                                     "fields")]:
             code = book_code(kind, text)
             case = least_book_case(code, promise)
             self.assertIn(promise, play_book(code, case).broken, text)
@@ -167,14 +177,17 @@ class TestGreatNumbers(unittest.TestCase):
     def test_turned(self):
         for place in (64, 10 ** 29, BIG):
             code = book_code("note", TURNED.replace("64", str(place)))
-            self.assertEqual([next_wrong_book(code, 1), next_right_book(code, 1), next_wrong_book(code, place), next_right_book(code, place + 1)],
+            self.assertEqual([next_wrong_book(code, 1), next_right_book(code, 1), next_wrong_book(code, place),
+                              next_right_book(code, place + 1)],
                              [1, place, place + 1, None])
-            self.assertEqual([book_is_right(code, place), book_is_right(code, 10 ** 60), book_kept(code)], [True, False, ("inside", "rows", "full")])
+            self.assertEqual([book_is_right(code, place), book_is_right(code, 10 ** 60), book_kept(code)],
+                             [True, False, ("inside", "rows", "full")])
 
     def test_bounds(self):
         for number in (5, 10 ** 30 - 2):
             code = book_code("fail", FAIL + "\nif size is " + str(number) + "\nmark = size\nend")
-            self.assertEqual([next_wrong_book(code, 1), next_wrong_book(code, number + 1), next_right_book(code, number), book_is_right(code, number)],
+            self.assertEqual([next_wrong_book(code, 1), next_wrong_book(code, number + 1), next_right_book(code, number),
+                              book_is_right(code, number)],
                              [number, None, number + 1, False])
             case = least_book_case(code, "fields")
             self.assertEqual((case[0], rows_of(case)), (number, 0))
@@ -187,7 +200,8 @@ class TestGreatNumbers(unittest.TestCase):
         self.assertEqual([next_wrong_book(least, 1), next_right_book(least, 1), next_right_book(least, BIG + 2)], [BIG + 2, BIG + 1, None])
         both = book_code("undo", UNDO.replace("back b times", "if b < 3\nback b times\nend"), BookRules(str(BIG) + " - size"))
         start = (BIG + 1) // 2
-        self.assertEqual([next_wrong_book(both, 1), next_wrong_book(both, BIG - 3), next_wrong_book(both, BIG - 2), next_right_book(both, 1),
+        self.assertEqual([next_wrong_book(both, 1), next_wrong_book(both, BIG - 3), next_wrong_book(both, BIG - 2),
+                          next_right_book(both, 1),
                           next_right_book(both, BIG)], [start, BIG - 3, None, BIG - 2, None])
 
     def test_rests(self):

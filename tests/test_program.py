@@ -43,11 +43,12 @@ class TestPrograms(unittest.TestCase):
 
     def test_other_kinds(self):
         put, strike, stretch = parts()["page_codes"]
-        for codes in ([], [put, strike], [put, strike, stretch, stretch], [strike, put, stretch], [put, strike, strike], [put, strike, pack_code()],
-                      [put, strike, None], [put, strike, "set"], None, book_codes()[:3], deed_codes()):
+        for codes in ([], [put, strike], [put, strike, stretch, stretch], [strike, put, stretch], [put, strike, strike],
+                      [put, strike, pack_code()], [put, strike, None], [put, strike, "set"], None, book_codes()[:3], deed_codes()):
             self.refused(OtherKinds, "pages", page_codes=codes, deeds=[], book_codes=[], most_pages=0)
         enter, leave, change = deed_codes()
-        for deeds in ([], [enter, leave], [leave, enter, change], [enter, leave, change, change], [enter, leave, put], [enter, leave, None], "deeds"):
+        for deeds in ([], [enter, leave], [leave, enter, change], [enter, leave, change, change], [enter, leave, put],
+                      [enter, leave, None], "deeds"):
             self.refused(OtherKinds, "deeds", deeds=deeds, book_codes=[], room_code=room_code(rules=OTHER))
         note, fail, undo, redo = book_codes()
         for codes in ([], [note, fail, undo], [note, fail, redo, undo], [note, fail, undo, redo, redo], [note, fail, undo, put], (), None):
@@ -59,7 +60,8 @@ class TestPrograms(unittest.TestCase):
             codes = parts()["page_codes"]
             codes[k] = other[k]
             self.refused(OtherRules, "pages", page_codes=codes, book_codes=book_codes(LESS)[:3] + [book_code("redo")], most_pages=0)
-        self.refused(OtherRules, "rooms", room_code=room_code(rules=OTHER), book_codes=book_codes(LESS)[:3] + [book_code("redo")], most_pages=0)
+        self.refused(OtherRules, "rooms", room_code=room_code(rules=OTHER), book_codes=book_codes(LESS)[:3] + [book_code("redo")],
+                     most_pages=0)
         self.refused(OtherRules, "rooms", page_codes=other, most_pages=0)
         self.refused(OtherRules, "book", book_codes=book_codes(LESS)[:3] + [book_code("redo")], most_pages=0)
         self.refused(OtherRules, "book", book_codes=[book_code("note", rules=LESS)] + book_codes()[1:])

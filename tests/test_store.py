@@ -162,7 +162,8 @@ class TestCalls(unittest.TestCase):
     def test_steps(self):
         store = store_of(ids=EIGHT_IDS)
         one = store.call("enter", 3, 10)
-        self.assertEqual((one.told, one.number, one.steps), ("ok", 0, (("lay", "laid", (0, 0)), ("give", "given", 256), ("enter", None, 256))))
+        self.assertEqual((one.told, one.number, one.steps),
+                         ("ok", 0, (("lay", "laid", (0, 0)), ("give", "given", 256), ("enter", None, 256))))
         one = store.call("change", 3, 12)
         self.assertEqual((one.told, one.number, one.steps),
                          ("ok", 1, (("find", "there", 256), ("look", "held", (0, 0)), ("stretch", "stretched", (0, 0)))))
@@ -170,10 +171,12 @@ class TestCalls(unittest.TestCase):
         self.assertEqual((one.told, one.number, one.steps[2]), ("no", 2, ("stretch", "full", (0, 0))))
         one = store.call("leave", 3)
         self.assertEqual((one.told, one.number, one.steps), ("ok", 3, (
-            ("find", "there", 256), ("look", "held", (0, 0)), ("strike", "struck", (0, 0)), ("free", "freed", (0, 0)), ("leave", None, None))))
+            ("find", "there", 256), ("look", "held", (0, 0)), ("strike", "struck", (0, 0)), ("free", "freed", (0, 0)),
+            ("leave", None, None))))
         one = store.call("enter", 4, 29)
         self.assertEqual((one.told, one.steps), ("no", (("lay", "full", None),)))
-        self.assertEqual([(store.call(*call).told, store.call(*call).steps) for call in (("leave", 3), ("change", 3, 1))], [("gone", ())] * 2)
+        self.assertEqual([(store.call(*call).told, store.call(*call).steps) for call in (("leave", 3), ("change", 3, 1))],
+                         [("gone", ())] * 2)
         self.assertEqual(store.calls, 9)
 
     def test_unhappy_steps(self):
@@ -202,7 +205,8 @@ class TestCalls(unittest.TestCase):
         self.assertEqual(answers(store, ("enter", 1, 1)), ["ok"])
         one = store.call("change", 1, 5)
         self.assertEqual((one.told, one.steps[2:]), ("ok", (("give", "given", 512), ("enter", None, 512))))
-        self.assertEqual((store.id_of(1), store.all_places(), store.looked(256), store.read(1)), (512, {(0, 0): (2, True, False)}, None, (0, 1)))
+        self.assertEqual((store.id_of(1), store.all_places(), store.looked(256), store.read(1)),
+                         (512, {(0, 0): (2, True, False)}, None, (0, 1)))
         self.assertEqual(store.faults(), (("spoilt", 1),))
 
     def test_own_none(self):
@@ -224,12 +228,14 @@ class TestCalls(unittest.TestCase):
         store = store_of(places=2)
         self.assertEqual(answers(store, ("enter", 1, 1), ("enter", 2, 2)), ["ok", "ok"])
         one = store.call("enter", 3, 3)
-        self.assertEqual((one.told, one.number, one.steps[0], store.calls, store.held_keys()), ("long", 2, ("lay", "laid", (0, 2)), 4, (1, 2)))
+        self.assertEqual((one.told, one.number, one.steps[0], store.calls, store.held_keys()),
+                         ("long", 2, ("lay", "laid", (0, 2)), 4, (1, 2)))
         one = store.call("leave", 1)
         self.assertEqual((one.told, one.number, len(one.steps), store.calls, store.read(1)), ("long", 4, 5, 6, (5, 1)))
         one = store.call("change", 2, 9)
         self.assertEqual((one.told, one.number, store.calls, store.read(2)), ("long", 6, 8, (7, 2)))
-        self.assertEqual((answers(store, ("change", 2, 99), ("enter", 2, 1), ("leave", 7)), store.calls, store.faults()), (["no", "twice", "gone"], 11, ()))
+        self.assertEqual((answers(store, ("change", 2, 99), ("enter", 2, 1), ("leave", 7)), store.calls, store.faults()),
+                         (["no", "twice", "gone"], 11, ()))
 
     def test_long_calls_that_cannot_be_taken_back(self):
         store = store_of(places=1, deeds=deed_codes(leave=LEAVE + "\nquit no"))
@@ -281,7 +287,8 @@ class TestLay(unittest.TestCase):
     def test_above_full(self):
         # Behind a length above full no ask is played, and no put.
         store = store_of(room=room_code(asks="if 28 < len\nclass = bits 0 - 1\nend\nclass = 0", top=28), put=MARKING)
-        self.assertEqual((answers(store, ("enter", 1, 29), ("enter", 1, 10 ** 30)), store.broken, pages_of(store)), (["no", "no"], None, []))
+        self.assertEqual((answers(store, ("enter", 1, 29), ("enter", 1, 10 ** 30)), store.broken, pages_of(store)),
+                         (["no", "no"], None, []))
 
     def test_new_page_that_is_not_kept(self):
         store = store_of(put="no")
@@ -390,9 +397,9 @@ class TestNames(unittest.TestCase):
         self.assertEqual((store.read(1), store.faults()), ((0, 3), (("extra", 1),)))
 
     def test_sets(self):
-        for text, name, length, told in [("no", 0, 3, "no"), ("own.len = len\nno", None, 9, "no"), ("own.len = len", None, 9, "ok"), ("", 0, 3, "ok"),
-                                         ("lay own.at - 6\nown.at = own.at - 6\nown.len = len", 1, 9, "ok"), ("lay own.at - 6\nno", None, 3, "no"),
-                                         ("lay own.at - 6\nown.at = own.at - 6\nno", 1, 3, "no")]:
+        for text, name, length, told in [("no", 0, 3, "no"), ("own.len = len\nno", None, 9, "no"), ("own.len = len", None, 9, "ok"),
+                                         ("", 0, 3, "ok"), ("lay own.at - 6\nown.at = own.at - 6\nown.len = len", 1, 9, "ok"),
+                                         ("lay own.at - 6\nno", None, 3, "no"), ("lay own.at - 6\nown.at = own.at - 6\nno", 1, 3, "no")]:
             store = store_of(stretch=text)
             self.assertEqual(answers(store, ("enter", 1, 3), ("change", 1, 9)), ["ok", told])
             self.assertEqual(store.read(1), (name, length), text)
@@ -422,7 +429,8 @@ class TestTurns(unittest.TestCase):
         told = store.turn("fail")
         self.assertEqual([(one.told, one.number) for one in told], [("ok", 4), ("ok", 5), ("ok", 6), ("ok", 7)])
         self.assertEqual([one.steps[-1][0] for one in told], ["enter", "leave", "stretch", "leave"])
-        self.assertEqual((store.held_keys(), store.calls, store.turn(word="fail"), store.turn("undo"), store.faults()), ((), 8, (), None, ()))
+        self.assertEqual((store.held_keys(), store.calls, store.turn(word="fail"), store.turn("undo"), store.faults()),
+                         ((), 8, (), None, ()))
 
     def test_undo_and_redo(self):
         store = store_of(places=5)
@@ -579,7 +587,8 @@ class TestFaults(unittest.TestCase):
 
     def test_spoilt_and_long(self):
         self.assertEqual(self.faults([("enter", 1, 3)], put=PUT.replace("\nlay low", "")), (("spoilt", 1),))
-        self.assertEqual(self.faults([("enter", 1, 3)], put=PUT.replace("own.len = len", "own.len = len + 1").replace("low = low - a", "low = low - a - 1")),
+        self.assertEqual(self.faults([("enter", 1, 3)], put=PUT.replace("own.len = len", "own.len = len + 1").replace("low = low - a",
+                                                                                                                      "low = low - a - 1")),
                          (("long", 1),))
         # Spoilt comes ahead of long.
         self.assertEqual(self.faults([("enter", 1, 3), ("change", 1, 5)], deeds=deed_codes(change="")), (("spoilt", 1),))
@@ -588,10 +597,12 @@ class TestFaults(unittest.TestCase):
         # The second id has no stamp and no slot: both are the same number.
         same = ids_of("word = 5", "", "page = 0\nslot = 0\nif lent\naccept\nend", 0)
         self.assertEqual(self.faults([("enter", 3, 3), ("enter", 1, 4), ("enter", 2, 5)], ids=same),
-                         (("spoilt", 1), ("spoilt", 2), ("alike", 2), ("alike", 3), ("lent", 0, 1), ("lent", 0, 2), ("stray", 0, 1), ("stray", 0, 2)))
+                         (("spoilt", 1), ("spoilt", 2), ("alike", 2), ("alike", 3), ("lent", 0, 1), ("lent", 0, 2), ("stray", 0, 1),
+                          ("stray", 0, 2)))
 
     def test_lent_and_stray(self):
-        self.assertEqual(self.faults([("enter", 1, 3)], deeds=deed_codes(enter="lay p\ngive h p")), (("missing", 1), ("lent", 0, 0), ("stray", 0, 0)))
+        self.assertEqual(self.faults([("enter", 1, 3)], deeds=deed_codes(enter="lay p\ngive h p")),
+                         (("missing", 1), ("lent", 0, 0), ("stray", 0, 0)))
         self.assertEqual(self.faults([("enter", 1, 3)], deeds=deed_codes(enter="lay p\nquit no")), (("stray", 0, 0),))
         self.assertEqual(self.faults([("enter", 1, 3)], deeds=deed_codes(enter="lay p\ngive h p\nstrike p\nquit no")), (("lent", 0, 0),))
         calls = [("enter", key, 20) for key in (1, 2, 3)]
@@ -626,7 +637,8 @@ class TestFaults(unittest.TestCase):
         self.assertEqual((answers(store, ("enter", 1, 3)), store.faults()), (["ok"], (("missing", 1), ("shown", 0))))
 
     def test_order(self):
-        store = store_of(60, 9, pages=4, outside=True, ids=ids_of(GIVE_EIGHT, "", LOOK_EIGHT.replace("lent and a is stamp", "not 7 is slot")),
+        store = store_of(60, 9, pages=4, outside=True,
+                         ids=ids_of(GIVE_EIGHT, "", LOOK_EIGHT.replace("lent and a is stamp", "not 7 is slot")),
                          put=PUT + "\nholes = holes + 1",
                          deeds=deed_codes(leave=FIND + "leave", change=FIND + "free p"))
         answers(store, ("enter", 5, 3), ("enter", 3, 40), ("enter", 4, 3), ("leave", 5), ("change", 4, 7))
@@ -653,7 +665,8 @@ class TestBroken(unittest.TestCase):
         self.assertEqual(self.broken([("enter", 1, 1)], room=room_code(asks="a = 0 - 1\nclass = bits a", top=64)), ("rooms", "ask"))
         self.assertEqual(self.broken([("enter", 1, 9)], room=room_code(asks="class = len", top=8)), ("rooms", "ask"))
         self.assertEqual(self.broken([("enter", 1, 8)], room=room_code(asks="class = len", top=8)), ("rooms", "class"))
-        self.assertEqual(self.broken([("enter", 1, 8)], room=room_code("if fit is full\nclass = 0\nelse\nclass = 1\nend", "class = 0", top=0)),
+        self.assertEqual(self.broken([("enter", 1, 8)], room=room_code("if fit is full\nclass = 0\nelse\nclass = 1\nend", "class = 0",
+                                                                       top=0)),
                          ("rooms", "class"))
 
     def test_deeds(self):
@@ -685,7 +698,8 @@ class TestBroken(unittest.TestCase):
     def test_looks_beyond(self):
         store = store_of(ids=ids_of(GIVE_EIGHT, "", "page = word\nslot = 0\nif stamp is 9\naccept\nend"))
         answers(store, ("enter", 1, 8))
-        self.assertEqual((store.read(1), store.looked(1), store.faults()), ((None, None), None, (("lost", 1), ("lent", 0, 0), ("stray", 0, 0))))
+        self.assertEqual((store.read(1), store.looked(1), store.faults()),
+                         ((None, None), None, (("lost", 1), ("lent", 0, 0), ("stray", 0, 0))))
         for word in (2, 256, -1):
             self.assertRaises(Beyond, store.looked, word)
         self.assertEqual(store.broken, None)
@@ -702,8 +716,9 @@ class TestPlacesThatThereAre(unittest.TestCase):
 
     def test_places_that_were_lent_once(self):
         # The slot that is lent here is none of those that a page of this size has room for.
-        store = store_of(put="take next\nslots = slots + 1\nown.at = 0\nown.len = 1", ids=ids_of("word = slot", "", "page = 0\nslot = word\na = stamp"),
-                         places=20, room=room_code(asks="class = 0"), pages=1)
+        store = store_of(put="take next\nslots = slots + 1\nown.at = 0\nown.len = 1",
+                         ids=ids_of("word = slot", "", "page = 0\nslot = word\na = stamp"), places=20,
+                         room=room_code(asks="class = 0"), pages=1)
         self.assertEqual(answers(store, *[("enter", key, 1) for key in range(12)]), ["ok"] * 12)
         self.assertEqual([store.looked(word) for word in (8, 11)], [None, None])
         self.assertRaises(Beyond, store.looked, 12)
@@ -711,8 +726,10 @@ class TestPlacesThatThereAre(unittest.TestCase):
 
     def test_great_pages(self):
         size = 10 ** 30
-        store = store_of(size, 9, ids=ids_of("word = slot << 4\nword = word + page", "", "page = word & 15\nslot = word >> 4\nif lent\naccept\nend"))
-        self.assertEqual(answers(store, ("enter", 1, size // 2), ("enter", 2, size // 2), ("enter", 3, 7), ("change", 3, size // 3), ("leave", 1)),
+        store = store_of(size, 9, ids=ids_of("word = slot << 4\nword = word + page", "",
+                                             "page = word & 15\nslot = word >> 4\nif lent\naccept\nend"))
+        self.assertEqual(answers(store, ("enter", 1, size // 2), ("enter", 2, size // 2), ("enter", 3, 7), ("change", 3, size // 3),
+                                 ("leave", 1)),
                          ["ok"] * 5)
         self.assertEqual((pages_of(store), store.faults()), ([(None, size // 3), (size // 2,)], ()))
         self.assertEqual((store.read(3), store.looked(10 ** 60)), ((3, size // 3), None))
@@ -736,7 +753,8 @@ class TestCursors(unittest.TestCase):
     def test_going_on(self):
         store = self.filled(10, 20, 30)
         store.new_cursor(15)
-        self.assertEqual([store.go_on(number=0), store.cursor_at(number=0), store.go_on(0), store.cursor_at(0), store.go_on(0), store.cursor_at(0)],
+        self.assertEqual([store.go_on(number=0), store.cursor_at(number=0), store.go_on(0), store.cursor_at(0), store.go_on(0),
+                          store.cursor_at(0)],
                          [20, (20, False), 30, (30, False), None, None])
         answers(store, ("enter", 40, 1))
         self.assertEqual([store.go_on(0), store.cursor_at(0)], [None, None])

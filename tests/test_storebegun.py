@@ -8,8 +8,8 @@ from heldplaces.pagerules import PageRules
 from heldplaces.pageverdicts import least_page_case
 from heldplaces.store import Store
 from samples import (
-    GIVE_EIGHT, GIVE_FOUR, LOOK_EIGHT, LOOK_FOUR, PLAIN, PUT, SHRINK, STRETCH, STRIKE, TWICE, ids_of, program_of, put_code, room_code, set_code,
-    strike_code)
+    GIVE_EIGHT, GIVE_FOUR, LOOK_EIGHT, LOOK_FOUR, PLAIN, PUT, SHRINK, STRETCH, STRIKE, TWICE, ids_of, program_of, put_code, room_code,
+    set_code, strike_code)
 
 PAGE = (40, 25, (None, (30, 10), (27, 3), None))
 EIGHT_IDS = ids_of(GIVE_EIGHT, "", LOOK_EIGHT)
@@ -33,9 +33,9 @@ class TestErrors(unittest.TestCase):
         self.assertRaises(BadPage, Store.begun, program_of(rules), 39, 4, (40, 39, ()))
 
     def test_pages(self):
-        for page in (None, [40, 40, ()], (40, 40), (40, 40, []), (40, 41, ()), (41, 41, ()), (39, 39, ()), (40, 7, ()), (40, 25, ((24, 3),)),
-                     (40, 25, ((38, 3),)), (40, 25, ((30, 3), (32, 3))), (40, 25, (True,)), (40, 25, ((30, 0),)), "page", 40, (True, 25, ()),
-                     (40, 19, (None, None, None))):
+        for page in (None, [40, 40, ()], (40, 40), (40, 40, []), (40, 41, ()), (41, 41, ()), (39, 39, ()), (40, 7, ()),
+                     (40, 25, ((24, 3),)), (40, 25, ((38, 3),)), (40, 25, ((30, 3), (32, 3))), (40, 25, (True,)), (40, 25, ((30, 0),)),
+                     "page", 40, (True, 25, ()), (40, 19, (None, None, None))):
             with self.assertRaises(BadPage) as caught:
                 Store.begun(program_of(), 40, 4, page, None)
             self.assertIs(caught.exception.page, page)
@@ -67,7 +67,8 @@ class TestBeginnings(unittest.TestCase):
         store = begun(ids=EIGHT_IDS)
         self.assertEqual((store.record_page(0), store.held_keys(), store.calls, store.broken), ((PAGE, 2), (0, 1), 2, None))
         self.assertEqual([store.read(0), store.read(1), store.id_of(0), store.id_of(1)], [(0, 10), (1, 3), 257, 258])
-        self.assertEqual(store.all_places(), {(0, 0): (0, False, False), (0, 1): (1, True, False), (0, 2): (1, True, False), (0, 3): (0, False, False)})
+        self.assertEqual(store.all_places(), {(0, 0): (0, False, False), (0, 1): (1, True, False), (0, 2): (1, True, False),
+                                              (0, 3): (0, False, False)})
         self.assertEqual((store.faults(), store.turn("undo"), store.turn("fail"), store.turn("redo")), ((), None, (), None))
         self.assertEqual([store.looked(257), store.looked(258), store.looked(256)], [(0, 10), (1, 3), None])
 
@@ -75,7 +76,8 @@ class TestBeginnings(unittest.TestCase):
         store = begun(ids=EIGHT_IDS)
         one = store.call("enter", 5, 2)
         self.assertEqual((one.told, one.number, one.steps[0], store.read(5)), ("ok", 2, ("lay", "laid", (0, 0)), (2, 2)))
-        self.assertEqual([store.call("leave", 1).told, store.call("change", 0, 8).told, store.call("enter", 0, 1).told], ["ok", "ok", "twice"])
+        self.assertEqual([store.call("leave", 1).told, store.call("change", 0, 8).told, store.call("enter", 0, 1).told],
+                         ["ok", "ok", "twice"])
         self.assertEqual((len(store.turn("fail")), store.held_keys(), store.read(0)[1], store.faults()), (3, (0, 1), 10, ()))
         self.assertEqual(store.turn("undo"), None)
 
@@ -145,13 +147,16 @@ class TestLeastCases(unittest.TestCase):
 
     def test_faults(self):
         for which, text, promise, broken, word in [
-                ("put", PUT.replace("own.len = len", "own.len = len + 1"), "owed", None, "long"), ("put", PUT.replace("\nlay low", ""), "owed", None, "spoilt"),
-                ("put", PUT + "\nlow = low - 1", "lawful", None, "page"), ("strike", TWICE, "books", None, "page"), ("strike", "", "owed", None, "stray"),
-                ("put", PUT.replace("lay low", "lay low + 1"), "inside", ("pages", "put"), "stray"),
+                ("put", PUT.replace("own.len = len", "own.len = len + 1"), "owed", None, "long"),
+                ("put", PUT.replace("\nlay low", ""), "owed", None, "spoilt"), ("put", PUT + "\nlow = low - 1", "lawful", None,
+                                                                                "page"), ("strike", TWICE, "books", None, "page"),
+                ("strike", "", "owed", None, "stray"), ("put", PUT.replace("lay low", "lay low + 1"), "inside", ("pages", "put"), "stray"),
                 ("stretch", STRETCH.replace("own.len = len", "own.len = len + 1"), "owed", None, "long"),
-                ("stretch", STRETCH.replace("\nlay low", ""), "owed", None, "spoilt"), ("stretch", STRETCH.replace("pack\n", ""), "whole", None, "spoilt"),
+                ("stretch", STRETCH.replace("\nlay low", ""), "owed", None, "spoilt"),
+                ("stretch", STRETCH.replace("pack\n", ""), "whole", None, "spoilt"),
                 ("strike", SHRINK.replace("if own is last\n", "").replace("slots - 1\nend", "slots - 1"), "owed", None, "lost"),
-                ("strike", STRIKE.replace("a = room own.len\nclear own", "clear own\na = room own.len"), "inside", ("pages", "strike"), "lost")]:
+                ("strike", STRIKE.replace("a = room own.len\nclear own", "clear own\na = room own.len"), "inside", ("pages", "strike"),
+                 "lost")]:
             told, faults = self.show(which, text, promise)
             self.assertEqual(told, broken, text)
             self.assertIn(word, [one[0] for one in faults], text)

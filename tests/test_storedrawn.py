@@ -123,7 +123,8 @@ class TestRightPrograms(unittest.TestCase):
                 continue
             rights += 1
             page = some_page(rng, program.page_codes[0].rules, size)
-            stores = [Store(program, size, places)] + ([] if page is None else [Store.begun(program, size, places, page, rng.randint(0, 5))])
+            stores = [Store(program, size, places)] + ([] if page is None else [Store.begun(program, size, places, page,
+                                                                                            rng.randint(0, 5))])
             for store in stores:
                 for one in self.drive(rng, store, 60):
                     self.assertEqual(one.faults(), ())
@@ -133,7 +134,8 @@ class TestRightPrograms(unittest.TestCase):
         rng = random.Random(14)
         met, rights = set(), 0
         while rights < 12:
-            program = some_program(rng, 0, ids=(GIVE_EIGHT, LOOK_EIGHT), free="", none=-1, outside=True, top=255, room=("class = fit", "class = len"))
+            program = some_program(rng, 0, ids=(GIVE_EIGHT, LOOK_EIGHT), free="", none=-1, outside=True, top=255,
+                                   room=("class = fit", "class = len"))
             told = Program(program.page_codes, program.ids, program.room_code, program.deeds, program.book_codes, program.most_pages)
             size, places = some_sizes(rng, program)
             if not program_is_right(told, size, places):

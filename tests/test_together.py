@@ -14,8 +14,8 @@ from heldplaces.store import Store
 from heldplaces.together import good_gives, most_slots, next_wrong_program, program_is_right, wrong_parts
 from pagebrute import judge
 from samples import (
-    CARELESS, COPY, GIVE, GIVE_EIGHT, GIVE_FOUR, LESS, LOOK, LOOK_EIGHT, LOOK_FOUR, MOVE, PLAIN, PUT, SHORT, SHRINK, TURNED, TWICE, UNTIL, book_codes,
-    deed_codes, ids_of, program_of, put_code, room_code)
+    CARELESS, COPY, GIVE, GIVE_EIGHT, GIVE_FOUR, LESS, LOOK, LOOK_EIGHT, LOOK_FOUR, MOVE, PLAIN, PUT, SHORT, SHRINK, TURNED, TWICE,
+    UNTIL, book_codes, deed_codes, ids_of, program_of, put_code, room_code)
 
 NONE = [True, False, None, "3", 1.0, (3,), [], {}, 0, -1]
 BIG = 10 ** 30
@@ -63,8 +63,9 @@ class TestErrors(unittest.TestCase):
 
 class TestMostSlots(unittest.TestCase):
     def test_against_trying(self):
-        for text in (PUT, SHORT, PUT.replace("if b < a\npack", "if slots is 1\nquit\nend\nif b < a\npack"), "no", "", "take next", "take next\nslots = slots + 1",
-                     PUT.replace("if there is empty\ntake empty\nelse\ntake next", "if slots < 3\nif there is empty\ntake empty\nelse\ntake next").replace(
+        for text in (PUT, SHORT, PUT.replace("if b < a\npack", "if slots is 1\nquit\nend\nif b < a\npack"), "no", "", "take next",
+                     "take next\nslots = slots + 1", PUT.replace("if there is empty\ntake empty\nelse\ntake next",
+                                 "if slots < 3\nif there is empty\ntake empty\nelse\ntake next").replace(
                          "slots = slots + 1\nend", "slots = slots + 1\nend\nelse\nno\nend")):
             for rules in (PageRules(2, 1, 1), PageRules(0, 2, 2), PageRules(1, 1, 1, 7), PageRules(0, 3, 1)):
                 program = program_of(rules, put=text)
@@ -96,10 +97,12 @@ class TestGoodGives(unittest.TestCase):
         # With 1,025 slots the ids of the last one lead to the next page, which may be lent for the same stamp.
         self.assertEqual([good_gives(program_of(pages=100), 8 + 5 * 1024), good_gives(program_of(pages=100), 8 + 5 * 1025)],
                          [None, least_gives(ids_of(), "stale", 100, 1025) - 1])
-        self.assertEqual(good_gives(program_of(ids=ids_of(free="")), 8 + 5 * (10 ** 30 + 1)), good_gives(program_of(ids=ids_of(free="")), 5 * 10 ** 59))
+        self.assertEqual(good_gives(program_of(ids=ids_of(free="")), 8 + 5 * (10 ** 30 + 1)),
+                         good_gives(program_of(ids=ids_of(free="")), 5 * 10 ** 59))
 
     def test_against_histories(self):
-        for give, free, look in ((GIVE_FOUR, "", LOOK_FOUR), (GIVE_EIGHT, "stamp = stamp + 1", LOOK_EIGHT), (GIVE_FOUR, "stamp = stamp + 3", LOOK_FOUR)):
+        for give, free, look in ((GIVE_FOUR, "", LOOK_FOUR), (GIVE_EIGHT, "stamp = stamp + 1", LOOK_EIGHT),
+                                 (GIVE_FOUR, "stamp = stamp + 3", LOOK_FOUR)):
             ids = ids_of(give, free, look)
             program = program_of(ids=ids, pages=3)
             for size in (13, 18, 23, 33):
@@ -130,7 +133,8 @@ class TestWrongParts(unittest.TestCase):
 
     def test_pages(self):
         short = program_of(put=SHORT)
-        self.assertEqual([wrong_parts(short, 8, 4), wrong_parts(short, 9, 4), next_wrong_program(short, 1, 4), next_wrong_program(short, BIG, 4)],
+        self.assertEqual([wrong_parts(short, 8, 4), wrong_parts(short, 9, 4), next_wrong_program(short, 1, 4),
+                          next_wrong_program(short, BIG, 4)],
                          [(), ("pages",), 9, BIG])
         twice = program_of(strike=TWICE)
         self.assertEqual([wrong_parts(twice, 12, 4), wrong_parts(twice, 13, 4), next_wrong_program(twice, 8, 4)], [(), ("pages",), 13])
@@ -140,11 +144,13 @@ class TestWrongParts(unittest.TestCase):
         self.assertEqual([wrong_parts(late, 1000, 4), wrong_parts(late, 1001, 4), next_wrong_program(late, 1, 4)], [(), ("pages",), 1001])
         far = program_of(put=PUT + "\nif size is " + str(BIG - 1) + "\nholes = 1\nend", pages=1, ids=ids_of(
             "word = slot + 1", "retire", "page = 0\nslot = word - 1\nif lent\naccept\nend"))
-        self.assertEqual([next_wrong_program(far, 1, 4), next_wrong_program(far, BIG, 4), wrong_parts(far, BIG - 1, 4)], [BIG - 1, BIG + 12, ("pages",)])
+        self.assertEqual([next_wrong_program(far, 1, 4), next_wrong_program(far, BIG, 4), wrong_parts(far, BIG - 1, 4)],
+                         [BIG - 1, BIG + 12, ("pages",)])
 
     def test_ids(self):
         program = program_of(pages=2)
-        self.assertEqual([most_slots(program, 5132), wrong_parts(program, 5132, 4), most_slots(program, 5133), wrong_parts(program, 5133, 4)],
+        self.assertEqual([most_slots(program, 5132), wrong_parts(program, 5132, 4), most_slots(program, 5133),
+                          wrong_parts(program, 5133, 4)],
                          [1024, (), 1025, ("ids",)])
         four = program_of(ids=OLD_FOUR, pages=4)
         self.assertEqual([next_wrong_program(four, 1, 4), wrong_parts(four, 32, 4), wrong_parts(four, 33, 4)], [33, (), ("ids",)])
@@ -153,7 +159,8 @@ class TestWrongParts(unittest.TestCase):
     def test_no_slots(self):
         wrong = ids_of("", "", "accept")
         program = program_of(ids=wrong)
-        self.assertEqual([most_slots(program, 12), wrong_parts(program, 12, 4), wrong_parts(program, 13, 4), next_wrong_program(program, 1, 4)],
+        self.assertEqual([most_slots(program, 12), wrong_parts(program, 12, 4), wrong_parts(program, 13, 4),
+                          next_wrong_program(program, 1, 4)],
                          [0, (), ("ids",), 13])
 
     def test_which_promises_of_ids(self):
@@ -169,7 +176,8 @@ class TestWrongParts(unittest.TestCase):
         same = ids_of("word = 5", "", "refuse")
         self.assertEqual(wrong_parts(program_of(ids=same, deeds=idle), 40, 4), ("deeds",))
         self.assertEqual(wrong_parts(program_of(ids=same), 40, 4), ("ids",))
-        self.assertEqual(wrong_parts(program_of(ids=ids_of("word = 5", "", "page = 0\nslot = word\na = stamp"), deeds=idle), 40, 4), ("deeds", "ids"))
+        self.assertEqual(wrong_parts(program_of(ids=ids_of("word = 5", "", "page = 0\nslot = word\na = stamp"), deeds=idle), 40, 4),
+                         ("deeds", "ids"))
 
     def test_each_number_of_slots_up_to_the_most(self):
         # With one slot a look asks a place that there is not; with two slots it is there, but one slot comes up, too.
@@ -199,7 +207,8 @@ class TestWrongParts(unittest.TestCase):
         self.assertEqual(next_wrong_program(turned, 1, 64), 5133)
 
     def test_several_parts(self):
-        program = program_of(put=SHORT, ids=ids_of("", "", "accept"), room=room_code(top=0), deeds=deed_codes(leave=""), book=book_codes(redo="no"))
+        program = program_of(put=SHORT, ids=ids_of("", "", "accept"), room=room_code(top=0), deeds=deed_codes(leave=""),
+                             book=book_codes(redo="no"))
         self.assertEqual(wrong_parts(program, 40, 4), ("deeds", "pages", "ids", "rooms", "book"))
         self.assertEqual(wrong_parts(program, 8, 4), ("deeds", "book"))
 
@@ -221,7 +230,8 @@ class TestWrongParts(unittest.TestCase):
             self.assertEqual((wrong_parts(program, size, 4) if size < BIG else ()), ())
         self.assertEqual(next_wrong_program(program, 1, 4), 12 + 10 ** 30)
         self.assertEqual([wrong_parts(program, size, 10 ** 40) for size in (11 + BIG, 12 + BIG)], [(), ("rooms",)])
-        narrow = ids_of("word = page << 90\nword = word + slot + 1", "retire", "a = word - 1\npage = a >> 90\nslot = a mod " + str(1 << 90) +
+        narrow = ids_of("word = page << 90\nword = word + slot + 1", "retire",
+                        "a = word - 1\npage = a >> 90\nslot = a mod " + str(1 << 90) +
                         "\nif lent\naccept\nend")
         program = program_of(ids=narrow, pages=3, room=room_code("class = 0", "class = 0\nlook"))
         least = 8 + 5 * (2 ** 90 + 1)
